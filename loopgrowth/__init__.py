@@ -1,0 +1,1 @@
+"""Loopgrowth: how fast a loop of counters grows."""

@@ -1,0 +1,1 @@
+"""Exact answers to systems of integers."""

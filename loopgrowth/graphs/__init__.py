@@ -1,0 +1,1 @@
+"""Graphs of loops, and what can be told of their parts."""

@@ -1,0 +1,1 @@
+"""What the levels of a graph are made of."""

@@ -1,0 +1,1 @@
+"""Walks through a graph: step by step, and written down as recipes."""

@@ -1,0 +1,87 @@
+"""The interface: each name is defined in the file, and each method in the class, under which it is listed."""
+
+import ast
+import inspect
+import unittest
+from pathlib import Path
+
+from loopgrowth.graphs.graphs import Graph
+from loopgrowth.levels.balances import Balance
+from loopgrowth.walks.machine import Machine
+from loopgrowth.walks.recipes import MAX_ITEMS, Recipe
+from samples import SHUTTLE
+
+ROOT = Path(__file__).resolve().parent.parent
+
+FUNCTIONS = {
+    "loopgrowth.exact.systems": {
+        "is_system": "(value)", "solution": "(system)", "is_solution": "(system, value)",
+        "carried_columns": "(system)", "gained_rows": "(system)", "alternative": "(system, column)",
+        "is_alternative": "(system, column, value)", "row_alternative": "(system, row)",
+        "is_row_alternative": "(system, row, value)",
+    },
+    "loopgrowth.graphs.graphs": {"is_transition": "(value)"},
+    "loopgrowth.graphs.parts": {
+        "components": "(graph, names)", "is_returning": "(graph, names)", "way": "(graph, state, other)",
+        "is_circulation": "(graph, value)", "effect": "(graph, amounts, *, part=None)", "cycles": "(graph)",
+        "packed": "(graph, amounts)", "is_packed": "(graph, amounts, value)", "full_circulation": "(graph)",
+    },
+    "loopgrowth.walks.recipes": {"is_items": "(graph, state, value)", "circuit": "(graph, amounts, state)"},
+}
+
+METHODS = {
+    Graph: ("counters states names transitions __getitem__ __contains__ __len__ __bool__ __iter__ __eq__ __str__ change"
+            " leaving entering with_transitions without with_counter without_counter renamed of"),
+    Machine: ("graph state loads steps log possible take take_all walk taken highest back trial attempt twin"
+              " __contains__ __eq__ __str__"),
+    Recipe: ("of graph row start end length effect needs taken highest after __add__ __mul__ walk __getitem__ __bool__"
+             " __eq__ __str__"),
+    Balance: ("graph names parts rows meeting is_meeting fall effect_on added falling carried weighted gained __len__"
+              " __eq__ __str__"),
+}
+
+SIGNATURES = {
+    Graph: "(counters, *transitions, states=())", Graph.of: "(counters, transitions, states=())",
+    Graph.with_transitions: "(self, *transitions)", Graph.without: "(self, *names)",
+    Graph.with_counter: "(self, counter, changes)", Graph.without_counter: "(self, counter)",
+    Graph.renamed: "(self, kind, names)", Machine: "(graph, size, *, start=None)", Machine.take: "(self, *names)",
+    Machine.take_all: "(self, names)", Machine.walk: "(self, names)", Machine.back: "(self, *, many=1)",
+    Machine.attempt: "(self, action)", Recipe: "(graph, *items, start=None)", Recipe.of: "(graph, items, start=None)",
+    Recipe.after: "(self, loads)", Balance: "(graph, names, parts)", Balance.fall: "(self, meeting, name)",
+    Balance.effect_on: "(self, meeting, row)", Balance.added: "(self, meeting, other)",
+}
+
+
+class TestInterface(unittest.TestCase):
+    def test_functions_are_defined_in_their_files(self):
+        for module, functions in FUNCTIONS.items():
+            tree = ast.parse((ROOT / (module.replace(".", "/") + ".py")).read_text())
+            defined = {node.name for node in tree.body if isinstance(node, ast.FunctionDef)}
+            loaded = __import__(module, fromlist=["x"])
+            for name, parameters in functions.items():
+                self.assertIn(name, defined)
+                self.assertEqual(str(inspect.signature(getattr(loaded, name))), parameters, name)
+
+    def test_methods_are_defined_in_their_classes(self):
+        for one, names in METHODS.items():
+            for name in names.split():
+                self.assertIn(name, vars(one), (one, name))
+
+    def test_parameters(self):
+        for call, parameters in SIGNATURES.items():
+            self.assertEqual(str(inspect.signature(call)), parameters)
+
+    def test_constant(self):
+        self.assertEqual(MAX_ITEMS, 100000)
+
+    def test_only_graphs_can_be_iterated_over(self):
+        balance = Balance(SHUTTLE, SHUTTLE.names, {})
+        for value in (Machine(SHUTTLE, 1), Recipe(SHUTTLE, "a"), balance):
+            with self.assertRaises(TypeError):
+                iter(value)
+            with self.assertRaises(TypeError):
+                list(value)
+
+
+if __name__ == "__main__":
+    unittest.main()
