@@ -157,8 +157,8 @@ class TestBalances(unittest.TestCase):
         for names in [("go",), ("back", "a"), ("a", "b", "go")]:
             with self.assertRaises(InvalidBalance):
                 Balance(SHUTTLE, names, {})
-        for told in [(("p",), ("p",)), (("p", "q"), ("q",)), (("q", "p"),), (("p", "p"),), ((),), (("r",),), ("p",), "p",
-                     [("p",)], (["p"],), None, 1, {"p": 1}, (("p", "r"),), ((1,),), (None,), (("p",), ()), (("p",), 1)]:
+        for told in [(("p",), ("p",)), (("p", "q"), ("q",)), (("q", "p"),), (("p", "p"),), ((),), (("r",),), ("p",),
+                     "p", [("p",)], (["p"],), None, 1, {"p": 1}, (("p", "r"),), ((1,),), (None,), (("p",), ()), (("p",), 1)]:
             with self.assertRaises(InvalidBalance):
                 Balance(SHUTTLE, ("a", "b"), {"x": told})
         for value in odd_values():
@@ -173,8 +173,8 @@ class TestBalances(unittest.TestCase):
                 Balance(SHUTTLE, SHUTTLE.names, {"y": (), "x": told})
 
     def test_parts_with_further_states(self):
-        graph = Graph(("x",), ("a", "p", "p", (("x", 1),)), ("b", "q", "q", ()), ("c", "p", "q", ()), ("d", "q", "r", ()),
-                      ("e", "r", "p", ()))
+        graph = Graph(("x",), ("a", "p", "p", (("x", 1),)), ("b", "q", "q", ()), ("c", "p", "q", ()),
+                      ("d", "q", "r", ()), ("e", "r", "p", ()))
         balance = Balance(graph, ("a", "b"), {"x": (("q", "r"), ("p",))})
         self.assertEqual(balance.rows, (("x", ("p",)), ("x", ("q", "r"))))
         self.assertEqual((balance.gained(), balance.weighted()), ((("x", ("p",)),), (("x", ("q", "r")),)))
@@ -274,8 +274,8 @@ class TestMeetings(unittest.TestCase):
         self.assertEqual((FIRST.fall(one, "go"), FIRST.fall(one, "back"), FIRST.fall(one, "a")), (3, 4, 0))
         self.assertEqual(FIRST.effect_on(one, ("x", ("p", "q"))), 0)
         both = FIRST.added(one, MEETING)
-        self.assertEqual(both, ({("x", ("p", "q")): 4, ("y", ("p", "q")): 4, ("z", ("p", "q")): 9}, {"p": 104, "q": 100},
-                                {"a": 10, "b": 10, "back": 0, "go": 0}))
+        self.assertEqual(both, ({("x", ("p", "q")): 4, ("y", ("p", "q")): 4, ("z", ("p", "q")): 9},
+                                {"p": 104, "q": 100}, {"a": 10, "b": 10, "back": 0, "go": 0}))
         self.assertEqual([list(told) for told in both], [list(told) for told in MEETING])
         self.assertEqual(both, FIRST.added(MEETING, one))
 

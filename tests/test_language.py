@@ -33,8 +33,8 @@ register mro elements open input law version_info with_traceback add_note attrge
 credits delattr dir eval exec exit gc getattr globals hasattr help id importlib license locals methodcaller os quit
 setattr type vars sys
 """.split())
-BARRED_WORDS = re.compile(r"\b(type|typing|typing_extensions|enum|Enum|IntEnum|StrEnum|Flag|IntFlag|Generic|Protocol|ABC"
-                          r"|ABCMeta|namedtuple|NamedTuple|TypedDict|TYPE_CHECKING|abstractmethod)\b")
+BARRED_WORDS = re.compile(r"\b(type|typing|typing_extensions|enum|Enum|IntEnum|StrEnum|Flag|IntFlag|Generic|Protocol"
+                          r"|ABC|ABCMeta|namedtuple|NamedTuple|TypedDict|TYPE_CHECKING|abstractmethod)\b")
 AT_ONCE = ("zip", "enumerate", "reversed", "range", "map")
 VIEWS = ("items", "keys", "values")
 TAKERS = ("list", "tuple", "dict", "sorted", "sum", "any", "all", "enumerate", "zip", "bytes", "min", "max")

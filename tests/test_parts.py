@@ -281,7 +281,7 @@ class TestCycles(unittest.TestCase):
             self.assertIs(is_packed(graph, amounts, pairs), True)
             self.assertIs(is_packed(graph, amounts, tuple(reversed(pairs))), True)
             for at, (cycle, many) in enumerate(pairs):
-                for wrong in [((cycle, many + 1),), ((cycle, 0),), (), ((cycle, many), (cycle, many)), ([cycle, many],)]:
+                for wrong in [((cycle, many + 1),), ((cycle, 0),), (), ((cycle, many),) * 2, ([cycle, many],)]:
                     self.assertIs(is_packed(graph, amounts, pairs[:at] + wrong + pairs[at + 1:]), False)
                 if many > 1:
                     split = ((cycle, many - 1), (cycle, 1))
@@ -300,6 +300,12 @@ class TestCycles(unittest.TestCase):
         for value in odd_values():
             self.assertIs(is_packed(TWICE, amounts, value), False, value)
             self.assertIs(is_packed(TWICE, {}, value), value == (), value)
+        for many in (True, None, "1", (1,), [1], 0, -1, 1.0):
+            self.assertIs(is_packed(TWICE, {"aa": 1, "z": 1}, ((("aa", "z"), many),)), False)
+        self.assertIs(is_packed(TWICE, {"aa": 1, "z": 1}, ((("aa", "z"), 1),)), True)
+        once = {"a": 1, "go": 1, "back": 1}
+        self.assertIs(is_packed(SHUTTLE, once, ((("a", "go", "back"), 1),)), False)
+        self.assertIs(is_packed(SHUTTLE, once, ((("go", "back"), 1), (("a",), 1))), True)
         both = {"a": 1, "c": 1, "b": 1, "d": 1, "z": 2}
         self.assertIs(is_packed(TWICE, both, ((("a", "d", "z"), 1), (("b", "c", "z"), 1))), True)
         self.assertIs(is_packed(TWICE, both, ((("a", "c", "z"), 1), (("b", "d", "z"), 1))), True)

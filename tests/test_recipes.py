@@ -184,7 +184,8 @@ class TestRecipes(unittest.TestCase):
             self.assertEqual(first, [name_at(graph, items, at) for at in range(len(first))])
 
     def test_empty_repeats(self):
-        for items in [(), ((5, ()),), ((10 ** 999, ((10 ** 999, ()),)),), ((0, ("a",)),), ((10 ** 30, ((0, ("a",)),)),)]:
+        for items in [(), ((5, ()),), ((10 ** 999, ((10 ** 999, ()),)),), ((0, ("a",)),),
+                      ((10 ** 30, ((0, ("a",)),)),)]:
             recipe = self.check(SHUTTLE, items, "p")
             self.assertEqual(Recipe.of(SHUTTLE, items), recipe)
             self.assertEqual(list((recipe + recipe).walk()), [])

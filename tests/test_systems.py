@@ -1,7 +1,9 @@
 """Stage "exact systems": points 1.1 and 1.2."""
 
+import itertools
 import random
 import unittest
+from unittest import mock
 
 from loopgrowth.errors import InvalidNumber, InvalidSystem
 from loopgrowth.exact.systems import (
@@ -88,8 +90,8 @@ class TestIsSystem(unittest.TestCase):
                [row], (list(row),), (("least", [1, 2]),), (("least", (True, 2)),), (("least", (1, None)),),
                (("most", (1, 2)),), (("Least", (1, 2)),), (("equals", (1, 2)),), ((None, (1, 2)),), ((b"", (1, 2)),),
                ((1, (1, 2)),), (row, ("least", (1,))), (row, ("least", ())), (("least",),), (("least", (1, 2), 3),),
-               (row, None), (row, ()), ((["least"], (1,)),), (("least", 1),), (("least", ("1",)),), row, {"least": (1,)},
-               (("least", {1: 2}),), (("least", ((1,),)),)]
+               (row, None), (row, ()), ((["least"], (1,)),), (("least", 1),), (("least", ("1",)),), row,
+               {"least": (1,)}, (("least", {1: 2}),), (("least", ((1,),)),)]
         for value in bad + odd_values():
             self.assertIs(is_system(value), False, value)
 
@@ -138,6 +140,12 @@ class TestSolutions(unittest.TestCase):
     def test_many_systems(self):
         for system in many_systems():
             self.check(system)
+
+    def test_the_slow_choices_that_always_end(self):
+        for patience in (0, 1, 4):
+            with mock.patch("loopgrowth.exact.cones._PATIENCE", patience):
+                for system in many_systems()[::3] + [large_system(random.Random(5))]:
+                    self.check(system)
 
     def test_small_answers(self):
         self.assertEqual(carried_columns((("least", ()),)), ())
@@ -243,20 +251,38 @@ class TestAlternatives(unittest.TestCase):
                 self.assertIs(is_row_alternative(system, row, (kind, tuple(0 * one for one in numbers))), False)
 
     def test_judges_by_trying_small_numbers(self):
-        system = (("least", (-1, 1, 0)), ("equal", (1, -1, -1)))
-        small = [(one, two, three) for one in range(-1, 3) for two in range(-1, 3) for three in range(-1, 3)]
-        for shares in small:
+        for system in [(("least", (-1, 1, 0)), ("equal", (1, -1, -1))), (("least", (1, 0, 2)), ("equal", (0, 1, -1))),
+                       (("least", (1, 1, 1)), ("equal", (1, 1, -2))), (("least", (0, 0, 0)), ("equal", (0, 0, 0))),
+                       (("least", (2, -1, -1)), ("equal", (0, 0, 1))), (("least", (1, 2, 0)), ("least", (-1, -1, 0)))]:
+            self.try_small_shares(system)
+            self.try_small_forces(system)
+            self.try_small_solutions(system)
+
+    def try_small_shares(self, system):
+        for shares in itertools.product(range(-1, 3), repeat=3):
+            right = is_right(system, "shares", shares)
             for column in range(3):
-                right = is_right(system, "shares", shares) and shares[column] > 0
-                self.assertIs(is_alternative(system, column, ("shares", shares)), right)
-            right = is_right(system, "shares", shares) and row_sums(system, shares)[0] > 0
-            self.assertIs(is_row_alternative(system, 0, ("shares", shares)), right)
-        for forces in [(one, two) for one in range(-2, 3) for two in range(-2, 3)]:
+                self.assertIs(is_alternative(system, column, ("shares", shares)), right and shares[column] > 0)
+            gains = right and row_sums(system, shares)[0] > 0
+            self.assertIs(is_row_alternative(system, 0, ("shares", shares)), gains)
+
+    def try_small_forces(self, system):
+        for forces in itertools.product(range(-2, 3), repeat=2):
+            right = is_right(system, "forces", forces)
             for column in range(3):
-                right = is_right(system, "forces", forces) and column_sums(system, forces)[column] < 0
-                self.assertIs(is_alternative(system, column, ("forces", forces)), right)
-            right = is_right(system, "forces", forces) and forces[0] > 0
-            self.assertIs(is_row_alternative(system, 0, ("forces", forces)), right)
+                falls = right and column_sums(system, forces)[column] < 0
+                self.assertIs(is_alternative(system, column, ("forces", forces)), falls)
+            self.assertIs(is_row_alternative(system, 0, ("forces", forces)), right and forces[0] > 0)
+
+    def try_small_solutions(self, system):
+        for forces in itertools.product(range(-2, 3), repeat=2):
+            for shares in itertools.product(range(-1, 3), repeat=3):
+                right = is_right(system, "forces", forces) and is_right(system, "shares", shares)
+                right = right and all((share > 0) != (total < 0)
+                                      for share, total in zip(shares, column_sums(system, forces)))
+                right = right and all(word == "equal" or (force > 0) != (total > 0) for (word, _), force, total
+                                      in zip(system, forces, row_sums(system, shares)))
+                self.assertIs(is_solution(system, (forces, shares)), right)
 
     def test_values_that_are_no_pair(self):
         bad = [["shares", (5, 5, 0)], ("shares", [5, 5, 0]), ("share", (5, 5, 0)), ("shares", (5, 5)), ("shares",),

@@ -4,6 +4,8 @@ The variables are the shares of the columns, numbered first, and the sums of the
 numbered behind them. All of them are to be at least 0, and the sums of "equal" rows are 0.
 """
 
+_PATIENCE = 60
+
 
 class Tableau:
     """Tells some variables, the bound ones, by sums over the other ones, the loose ones.
@@ -64,11 +66,6 @@ def _gains(tableau, wanted):
     return gains
 
 
-def _least_place(variables, places):
-    """The place with the least variable, or -1 if there are no places."""
-    return min(places, key=lambda place: variables[place], default=-1)
-
-
 def _ray(tableau, to, many):
     """The values of all variables if one loose variable alone is above 0."""
     values = [0 for _ in range(many)]
@@ -80,19 +77,44 @@ def _ray(tableau, to, many):
 
 def _next_ray(tableau, fixed, wanted):
     """A ray on which a wanted variable is above 0, or an empty list if there is none."""
+    exchanges = 0
     while True:
         gains = _gains(tableau, wanted)
-        rising = [to for to in range(len(gains)) if gains[to] > 0 and not fixed[tableau.loose[to]]]
-        # All values are 0 until a ray is found: without the least variables this could go on forever.
-        to = _least_place(tableau.loose, rising)
-        if to < 0:
+        places = [to for to in range(len(gains)) if not fixed[tableau.loose[to]]]
+        rising = [to for to in places if gains[to] > 0]
+        if not rising:
             return []
+        # All values are 0 until a ray is found. So quick choices could go round forever; the least variables do not.
+        quick = exchanges < _PATIENCE
+        to = _greatest_place(gains, rising) if quick else _least_place(tableau.loose, rising)
         hindering = [at for at in range(len(tableau.bound))
                      if tableau.factors[at][to] < 0 and not fixed[tableau.bound[at]]]
-        at = _least_place(tableau.bound, hindering)
-        if at < 0:
+        if not hindering:
             return _ray(tableau, to, len(fixed))
+        at = _calmest_line(tableau, gains, places, to, hindering) if quick else _least_place(tableau.bound, hindering)
         tableau.exchange(at, to)
+        exchanges = exchanges + 1
+
+
+def _least_place(numbers, places):
+    return min(places, key=lambda place: numbers[place])
+
+
+def _greatest_place(numbers, places):
+    return max(places, key=lambda place: numbers[place])
+
+
+def _calmest_line(tableau, gains, places, to, lines):
+    """The line behind whose exchange the gains above 0 have the least sum."""
+    sums = {at: _gains_behind(tableau.factors[at], gains, places, to) for at in lines}
+    return min(lines, key=lambda at: sums[at])
+
+
+def _gains_behind(line, gains, places, to):
+    """The sum of the gains that are above 0 when this line is exchanged for the column `to`."""
+    pivot = -line[to]
+    left = [gains[place] * pivot + gains[to] * line[place] for place in places]
+    return sum([gain for gain in left if gain > 0]) // pivot
 
 
 def _pressures(tableau, wanted):

@@ -59,7 +59,7 @@ def _is_graph(counters, transitions, states):
     """Whether there is a graph of these counters, transitions and further states."""
     if not is_tuple_of_names(counters) or not is_tuple_of_names(states):
         return False
-    if not isinstance(transitions, tuple) or not all([is_transition(one) for one in transitions]):
+    if not all([is_transition(one) for one in transitions]):
         return False
     every_counter = sorted(set(counters))
     every_state = _all_states(transitions, states)
@@ -169,7 +169,7 @@ class Graph:
         return tuple(name for name, _, target, _ in self._rows if target == state)
 
     def _check_state(self, state):
-        if not isinstance(state, str) or state not in self._states:
+        if state not in self._states:
             raise UnknownName(state)
 
     def with_transitions(self, *transitions):
@@ -200,7 +200,7 @@ class Graph:
 
     def without_counter(self, counter):
         """The graph that has this counter no more."""
-        if not isinstance(counter, str) or counter not in self._counters:
+        if counter not in self._counters:
             raise UnknownName(counter)
         rest = tuple(other for other in self._counters if other != counter)
         rows = [(name, source, target, tuple(pair for pair in change if pair[0] != counter))
@@ -218,7 +218,7 @@ class Graph:
         own = _renaming(self._names, names if kind == _TRANSITIONS else {})
         rows = [(own[name], states[source], states[target], _renamed_change(change, counters))
                 for name, source, target, change in self._rows]
-        return Graph.of(tuple(list(counters.values())), tuple(rows), tuple(list(states.values())))
+        return Graph.of(tuple(counters.values()), tuple(rows), tuple(states.values()))
 
 
 def _renamed_change(change, counters):

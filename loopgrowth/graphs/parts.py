@@ -119,8 +119,6 @@ def _longer_ways(graph, names, states):
 
 def packed(graph, amounts):
     """Pairs of a cycle and a number that together take each transition as often as the amounts say."""
-    check_graph(graph)
-    check_amounts(graph, amounts)
     check_circulation(graph, amounts)
     rest = {name: amounts.get(name, 0) for name in graph.names}
     pairs = []
@@ -158,8 +156,6 @@ def rotated(names, at):
 
 def is_packed(graph, amounts, value):
     """Whether the value is pairs as `packed` returns them for these amounts."""
-    check_graph(graph)
-    check_amounts(graph, amounts)
     check_circulation(graph, amounts)
     if not isinstance(value, tuple) or not all([_is_counted_cycle(graph, pair) for pair in value]):
         return False

@@ -43,7 +43,7 @@ class Machine:
         self._graph = graph
         self._size = size
         self._first = graph.states[0] if start is None else start
-        self._changes = {name: tuple(list(graph.change(name).values())) for name in graph.names}
+        self._changes = {name: tuple(graph.change(name).values()) for name in graph.names}
         self._state = self._first
         self._loads = tuple(size for _ in graph.counters)
         self._log = []

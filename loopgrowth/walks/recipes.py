@@ -124,12 +124,13 @@ class Recipe:
     def __add__(self, other):
         if not isinstance(other, Recipe) or other._graph != self._graph or other._start != self._end:
             raise InvalidOperation("this is no recipe that goes on where the first one ends")
-        return Recipe.of(self._graph, self._row + other._row, self._start)
+        items = self._row + other._row
+        return Recipe(self._graph, *items, start=self._start)
 
     def __mul__(self, other):
         if self._end != self._start or not is_natural(other):
             raise InvalidOperation("only a recipe that leads back can be repeated, and only so many times")
-        return Recipe.of(self._graph, ((other, self._row),), self._start)
+        return Recipe(self._graph, (other, self._row), start=self._start)
 
     def walk(self):
         """The names of the recipe, one by one."""

@@ -93,7 +93,7 @@ class Stretch:
 
 def stretch_of(graph, items):
     """The stretch of items that can be walked."""
-    singles = {name: _single(name, tuple(list(graph.change(name).values()))) for name in graph.names}
+    singles = {name: _single(name, tuple(graph.change(name).values())) for name in graph.names}
     zeros = tuple(0 for _ in graph.counters)
     return _laid(singles, items, Stretch("", (), 0, zeros, zeros, zeros))
 
