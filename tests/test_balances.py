@@ -158,7 +158,8 @@ class TestBalances(unittest.TestCase):
             with self.assertRaises(InvalidBalance):
                 Balance(SHUTTLE, names, {})
         for told in [(("p",), ("p",)), (("p", "q"), ("q",)), (("q", "p"),), (("p", "p"),), ((),), (("r",),), ("p",),
-                     "p", [("p",)], (["p"],), None, 1, {"p": 1}, (("p", "r"),), ((1,),), (None,), (("p",), ()), (("p",), 1)]:
+                     "p", [("p",)], (["p"],), None, 1, {"p": 1}, (("p", "r"),), ((1,),), (None,), (("p",), ()),
+                     (("p",), 1)]:
             with self.assertRaises(InvalidBalance):
                 Balance(SHUTTLE, ("a", "b"), {"x": told})
         for value in odd_values():

@@ -28,7 +28,8 @@ class TestTransitions(unittest.TestCase):
 
     def test_changes(self):
         for change in [None, [], {}, "x", 1, {"x": 1}, [("x", 1)], (["x", 1],), (("x", 0),), (("x", 10),),
-                       (("x", -10),), (("x", True),), (("x", "1"),), (("x", None),), (("x", 1, 1),), (("x",),), ("x", 1), ("x1",),
+                       (("x", -10),), (("x", True),), (("x", "1"),), (("x", None),), (("x", 1, 1),), (("x",),), ("x", 1),
+                       ("x1",),
                        (("x", 1), ("x", 1)), (("y", 1), ("x", 1)), (("x", 1), None), ((), ()), (("x", 10 ** 999),),
                        ((("x", 1),),), nested(9)]:
             self.assertIs(is_transition(STEP[:3] + (change,)), False, change)
@@ -252,7 +253,8 @@ class TestEdits(unittest.TestCase):
                 with self.assertRaises(InvalidGraph):
                     SHUTTLE.with_counter(counter, changes)
         for changes in [{"a": 10}, {"a": -10}, {"a": True}, {"a": False}, {"a": None}, {"a": "1"}, {"no": 1}, {1: 1},
-                        {None: 1}, {("a",): 1}, {True: 1}, {"x": 1}, [("a", 1)], (("a", 1),), None, "a", SHUTTLE, {"a": [1]}]:
+                        {None: 1}, {("a",): 1}, {True: 1}, {"x": 1}, [("a", 1)], (("a", 1),), None, "a", SHUTTLE,
+                        {"a": [1]}]:
             with self.assertRaises(InvalidGraph):
                 SHUTTLE.with_counter("w", changes)
 
