@@ -250,7 +250,8 @@ class TestMeetings(unittest.TestCase):
         for value in bad + odd_values():
             self.assertIs(FIRST.is_meeting(value), False, value)
             for call in (lambda one: FIRST.fall(one, None), lambda one: FIRST.effect_on(one, None),
-                         lambda one: FIRST.added(one, None), lambda one: FIRST.added(MEETING, one)):
+                         lambda one: FIRST.added(one, None), lambda one: FIRST.added(one, MEETING),
+                         lambda one: FIRST.added(MEETING, one)):
                 with self.assertRaises(InvalidBalance):
                     call(value)
 

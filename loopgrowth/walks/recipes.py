@@ -169,13 +169,12 @@ def circuit(graph, amounts, state):
     parts = components(graph, support)
     if support and (len(parts) > 1 or state not in parts[0]):
         raise InvalidOperation("the transitions do not hang together at this state")
-    items = _round_trip(graph, state, list(packed(graph, amounts)), [])
+    items = _round_trip(graph, state, list(packed(graph, amounts)))
     return Recipe.of(graph, tuple(items), state)
 
 
-def _round_trip(graph, state, waiting, met):
+def _round_trip(graph, state, waiting):
     """Items from this state back to it that walk all waiting cycles that hang together with it."""
-    met.append(state)
     here = [(cycle, many) for cycle, many in waiting if state in _sources(graph, cycle)]
     for pair in here:
         waiting.remove(pair)
@@ -186,9 +185,7 @@ def _round_trip(graph, state, waiting, met):
         # The last round is written out, so that there is a place for what hangs on its states.
         for name in turned:
             items.append(name)
-            target = graph[name][2]
-            if target not in met:
-                items.extend(_round_trip(graph, target, waiting, met))
+            items.extend(_round_trip(graph, graph[name][2], waiting))
     return items
 
 
