@@ -62,3 +62,72 @@ def random_graph(seed, greatest=9):
                    for name, (begin, end) in zip(names, links)]
     source.shuffle(transitions)
     return Graph(tuple(counters), *transitions)
+
+
+def loop_graph(seed, most=16):
+    """A graph with many loops at its states and small changes, so that rounds and levels find much."""
+    source = random.Random(seed)
+    counters = "uvxyz"[:source.randint(1, 5)]
+    states = "abcdefgh"[:source.randint(1, min(8, max(1, most // 2)))]
+    links = [(states[at - 1], states[at]) for at in range(len(states))] if len(states) > 1 else []
+    for _ in range(source.randint(0 if links else 1, most - len(links))):
+        begin = source.choice(states)
+        links.append((begin, begin if source.random() < 0.6 else source.choice(states)))
+    greatest, rising = source.choice((1, 1, 2, 9)), source.choice((0.1, 0.3, 0.5))
+    transitions = []
+    for at, (begin, end) in enumerate(links):
+        chosen = [counter for counter in counters if source.random() < 0.4]
+        change = tuple((counter, source.randint(1, greatest) * (1 if source.random() < rising else -1))
+                       for counter in chosen)
+        transitions.append(("t" + chr(97 + at), begin, end, change))
+    return Graph(tuple(counters), *transitions)
+
+
+def graph_of(counters, *lines):
+    """A graph written short: lines like "a p q: x-1 y+2"."""
+    transitions = []
+    for line in lines:
+        head, _, changes = line.partition(":")
+        change = tuple(sorted((word[0], int(word[1:])) for word in changes.split()))
+        transitions.append((*head.split(), change))
+    return Graph(tuple(counters.split()), *transitions)
+
+
+# x and y move to and fro at a cost of x: n ** 2 moves. These raise w, which moves against v: n ** 4 moves. These raise
+# u, which pays for the ways on which w and v move once more: n ** 6 moves.
+SQUARE = graph_of("x y", "a p p: x-1 y+1", "b q q: y-1 x+1", "go p q:", "back q p: x-1")
+FOURTH = graph_of("x y w v", "a p p: x-1 y+1 w+1", "b q q: y-1 x+1", "go p q:", "back q p: x-1",
+                  "c r r: w-1 v+1", "d s s: v-1 w+1", "on r s:", "off s r: w-1", "in p r:", "out r p: x-1")
+SIXTH = graph_of("x y w v u", "a p p: x-1 y+1 w+1", "b q q: y-1 x+1", "go p q:", "back q p: x-1",
+                 "c r r: w-1 v+1 u+1", "d s s: v-1 w+1", "on r s:", "off s r: w-1",
+                 "e t t: w-1 v+1", "f o o: v-1 w+1", "ahead t o:", "again o t: u-1",
+                 "in p r:", "over r t:", "out t p: x-1")
+
+
+def changed_values(value):
+    """The value with one thing in it otherwise, and with one thing more or less, in each tuple and dict."""
+    if isinstance(value, bool) or value is None or isinstance(value, str):
+        return [None, 0, ()]
+    if isinstance(value, int):
+        return [value + 1, value - 1, -value, 2 * value, 0, None, True, str(value)[:5], (value,)]
+    if isinstance(value, tuple):
+        inner = [value[:at] + (one,) + value[at + 1:] for at in range(len(value)) for one in changed_values(value[at])]
+        return [value[:at] + value[at + 1:] for at in range(len(value))] + [value + value[-1:], list(value)] + inner
+    inner = [{**value, key: one} for key in value for one in changed_values(value[key])]
+    less = [{other: told for other, told in value.items() if other != key} for key in value]
+    return less + [{**value, "nosuch": 1}, list(value.items())] + inner
+
+
+def scaled_meeting(meeting, one, two, shift=0):
+    """Another meeting of the same balance: both of its sides multiplied, and the offsets moved."""
+    weights, offsets, amounts = meeting
+    return ({row: one * weight for row, weight in weights.items()},
+            {state: one * offset + shift for state, offset in offsets.items()},
+            {name: two * amount for name, amount in amounts.items()})
+
+
+def scaled_papers(paper):
+    """Papers with other meetings in the same places; papers may be nested."""
+    if isinstance(paper, tuple) and len(paper) == 3 and all(isinstance(told, dict) for told in paper):
+        return [scaled_meeting(paper, 7, 1), scaled_meeting(paper, 1, 10 ** 90, 5), scaled_meeting(paper, 3, 2, -10 ** 30)]
+    return [tuple(told) for told in zip(*[scaled_papers(one) for one in paper])]

@@ -8,40 +8,12 @@ from loopgrowth.graphs.graphs import Graph
 from loopgrowth.graphs.parts import components, is_returning
 from loopgrowth.levels.balances import Balance
 from samples import DOUBLE, EMPTY, PUMP, SHUTTLE, odd_names, odd_values, random_graph
+from sums import effect_of, fall_of, is_right, lies
 
 ALL = (("p", "q"),)
 FIRST = Balance(SHUTTLE, SHUTTLE.names, {"x": ALL, "y": ALL, "z": ALL})
 MEETING = ({("x", ("p", "q")): 1, ("y", ("p", "q")): 1, ("z", ("p", "q")): 2}, {"p": 1, "q": 0},
            {"a": 1, "b": 1, "back": 0, "go": 0})
-
-
-def lies(graph, name, part):
-    return graph[name][1] in part and graph[name][2] in part
-
-
-def fall_of(graph, rows, meeting, name):
-    weights, offsets, _ = meeting
-    _, source, target, change = graph[name]
-    inside = [(counter, part) for counter, part in rows if lies(graph, name, part)]
-    return offsets[source] - offsets[target] - sum(
-        weights[counter, part] * dict(change).get(counter, 0) for counter, part in inside)
-
-
-def effect_of(graph, names, meeting, row):
-    counter, part = row
-    return sum(meeting[2][name] * dict(graph[name][3]).get(counter, 0) for name in names if lies(graph, name, part))
-
-
-def is_right(graph, names, rows, meeting):
-    """Whether these are a meeting, by the sums of this test."""
-    weights, offsets, amounts = meeting
-    for state in graph.states:
-        if sum(amounts[name] for name in names if graph[name][1] == state) != \
-                sum(amounts[name] for name in names if graph[name][2] == state):
-            return False
-    pairs = [(fall_of(graph, rows, meeting, name), amounts[name]) for name in names]
-    pairs += [(effect_of(graph, names, meeting, row), weights[row]) for row in rows]
-    return all(one >= 0 and two >= 0 and (one > 0) != (two > 0) for one, two in pairs)
 
 
 def random_balance(source, graph):

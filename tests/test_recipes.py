@@ -9,6 +9,7 @@ from loopgrowth.graphs.graphs import Graph
 from loopgrowth.graphs.parts import components, cycles
 from loopgrowth.walks.recipes import MAX_ITEMS, Recipe, circuit, is_items
 from samples import DOUBLE, EMPTY, PUMP, SHUTTLE, odd_names, odd_numbers, odd_values, random_graph
+from sums import long_sums, sums_of, written_out
 
 VISIT = (10, ("a",)), "go", (10, ("b",)), "back"
 
@@ -27,57 +28,6 @@ def deep(many, inner=("a",), rounds=1):
     for _ in range(many):
         items = ((rounds, items),)
     return items
-
-
-def written_out(items):
-    row = []
-    for item in items:
-        round_trip = [item] if isinstance(item, str) else written_out(item[1])
-        row.extend(round_trip if isinstance(item, str) or not round_trip else round_trip * item[0])
-    return row
-
-
-def sums_of(graph, row, start):
-    """State, length, effect, needs and heights of a walk, step by step."""
-    sums = dict.fromkeys(graph.counters, 0)
-    low, high, state = dict(sums), dict(sums), start
-    for name in row:
-        _, source, target, change = graph[name]
-        assert source == state
-        state = target
-        for counter, amount in change:
-            sums[counter] += amount
-        low = {counter: min(low[counter], sums[counter]) for counter in sums}
-        high = {counter: max(high[counter], sums[counter]) for counter in sums}
-    return state, len(row), sums, {counter: -low[counter] for counter in low}, high
-
-
-def join(one, two):
-    """The same for two walks, one behind the other: (length, effect, low, high, counts)."""
-    return (one[0] + two[0], [a + b for a, b in zip(one[1], two[1])],
-            [min(low, a + b) for low, a, b in zip(one[2], one[1], two[2])],
-            [max(high, a + b) for high, a, b in zip(one[3], one[1], two[3])],
-            {name: one[4][name] + two[4][name] for name in one[4]})
-
-
-def long_sums(graph, items):
-    """The same for items of any numbers: repeats are joined by doubling."""
-    zeros = [0] * len(graph.counters)
-    total = (0, zeros, zeros, zeros, dict.fromkeys(graph.names, 0))
-    nothing = total
-    for item in items:
-        if isinstance(item, str):
-            change = [dict(graph[item][3]).get(counter, 0) for counter in graph.counters]
-            one = (1, change, [min(0, a) for a in change], [max(0, a) for a in change],
-                   {name: int(name == item) for name in graph.names})
-        else:
-            one, power, left = nothing, long_sums(graph, item[1]), item[0]
-            while left:
-                if left & 1:
-                    one = join(one, power)
-                power, left = join(power, power), left >> 1
-        total = join(total, one)
-    return total
 
 
 def name_at(graph, items, at):

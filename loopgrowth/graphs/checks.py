@@ -31,6 +31,20 @@ def check_counter(graph, counter):
         raise UnknownName(counter)
 
 
+def check_counters(graph, counters):
+    """Raises an error unless this is a tuple of counters."""
+    if not isinstance(counters, tuple):
+        raise InvalidOperation("the counters are no tuple")
+    for counter in counters:
+        check_counter(graph, counter)
+
+
+def check_thing(graph, thing):
+    """Raises an error unless this is a transition or a counter."""
+    if thing not in graph and thing not in graph.counters:
+        raise UnknownName(thing)
+
+
 def check_state(graph, state):
     """Raises an error unless the graph has this state."""
     if state not in graph.states:

@@ -1,0 +1,1 @@
+"""Bounds that are true for every n."""
