@@ -93,15 +93,31 @@ def graph_of(counters, *lines):
     return Graph(tuple(counters.split()), *transitions)
 
 
-# x and y move to and fro at a cost of x: n ** 2 moves. These raise w, which moves against v: n ** 4 moves. These raise
-# u, which pays for the ways on which w and v move once more: n ** 6 moves.
+# x and y move to and fro at a cost of x: n ** 2 moves. These raise w, which pays for further ways: n ** 3 moves. Or w
+# moves against v: n ** 4 moves. These raise u, which pays for the ways on which w and v move once more: n ** 6 moves.
 SQUARE = graph_of("x y", "a p p: x-1 y+1", "b q q: y-1 x+1", "go p q:", "back q p: x-1")
+CUBE = graph_of("x y w", "a p p: x-1 y+1 w+1", "b q q: y-1 x+1", "go p q:", "back q p: x-1",
+                "c r r: x-1 y+1", "d s s: y-1 x+1", "on r s:", "off s r: w-1", "in p r:", "out r p: x-1")
 FOURTH = graph_of("x y w v", "a p p: x-1 y+1 w+1", "b q q: y-1 x+1", "go p q:", "back q p: x-1",
                   "c r r: w-1 v+1", "d s s: v-1 w+1", "on r s:", "off s r: w-1", "in p r:", "out r p: x-1")
 SIXTH = graph_of("x y w v u", "a p p: x-1 y+1 w+1", "b q q: y-1 x+1", "go p q:", "back q p: x-1",
                  "c r r: w-1 v+1 u+1", "d s s: v-1 w+1", "on r s:", "off s r: w-1",
                  "e t t: w-1 v+1", "f o o: v-1 w+1", "ahead t o:", "again o t: u-1",
                  "in p r:", "over r t:", "out t p: x-1")
+
+
+def moving_graph(seed):
+    """A graph whose loops move amounts from one counter to another one, and whose ways cost something."""
+    source = random.Random(seed)
+    counters, states = "vwxy"[:source.randint(2, 4)], "pqrs"[:source.randint(2, 4)]
+    rows = []
+    for at, state in enumerate(states):
+        rows.append(("way" + state, states[at - 1], state, (("z", -1),)))
+        for many in range(source.randint(1, 2)):
+            one, two = sorted(source.sample(counters, 2))
+            first, second = source.choice(((1, -1), (-1, 1), (-1, 2), (2, -1), (3, -2), (-1, 1)))
+            rows.append((state + "ab"[many], state, state, ((one, first), (two, second))))
+    return Graph((*counters, "z"), *rows)
 
 
 def changed_values(value):

@@ -258,3 +258,29 @@ def greatest_numbers(graph, size, without=(), limit=20000):
             best[numbers[here]] = max([best.get(numbers[here], 0)] + behind)
         told[name] = max(best.values())
     return told
+
+
+def is_doubling_by(graph, free, value):
+    """Whether the value is a doubling, by the sums of this file; the free things are given."""
+    if type(value) is not tuple or len(value) != 2 or type(value[0]) is not dict or type(value[1]) is not tuple:
+        return False
+    amounts, counters = value
+    if not set(amounts) <= set(graph.names) or not is_number_dict(amounts, amounts, 0):
+        return False
+    if not counters or not all(type(one) is str for one in counters) or sorted(set(counters)) != list(counters):
+        return False
+    if not set(counters) <= set(graph.counters) - set(free):
+        return False
+    for state in graph.states:
+        if sum(amounts[name] for name in amounts if graph[name][1] == state) != \
+                sum(amounts[name] for name in amounts if graph[name][2] == state):
+            return False
+    support = [name for name in amounts if amounts[name]]
+    for counter in set(graph.counters) - set(free):
+        if counter in counters:
+            if sum(amounts[name] * dict(graph[name][3]).get(counter, 0) for name in support) <= 0:
+                return False
+        elif any(sum(amounts[name] * dict(graph[name][3]).get(counter, 0) for name in support
+                     if lies(graph, name, part)) < 0 for part in parts_of(graph, support)):
+            return False
+    return True

@@ -5,6 +5,7 @@ import inspect
 import unittest
 from pathlib import Path
 
+from loopgrowth.bounds.polynomials import Polynomial
 from loopgrowth.graphs.graphs import Graph
 from loopgrowth.levels.balances import Balance
 from loopgrowth.walks.machine import Machine
@@ -26,6 +27,29 @@ FUNCTIONS = {
         "is_circulation": "(graph, value)", "effect": "(graph, amounts, *, part=None)", "cycles": "(graph)",
         "packed": "(graph, amounts)", "is_packed": "(graph, amounts, value)", "full_circulation": "(graph)",
     },
+    "loopgrowth.levels.endless": {
+        "endless": "(graph, counters)", "every_run_ends": "(graph)", "endless_paper": "(graph, counters)",
+        "is_endless_paper": "(graph, counters, value)", "endless_walk": "(graph, counters, thing)",
+    },
+    "loopgrowth.levels.ranks": {
+        "free": "(graph)", "ranks_paper": "(graph)", "is_ranks_paper": "(graph, value)", "free_walk": "(graph, thing)",
+    },
+    "loopgrowth.levels.levels": {
+        "levels": "(graph)", "exponents": "(graph)", "rest": "(graph)", "level_balance": "(graph, level)",
+        "levels_paper": "(graph)", "is_levels_paper": "(graph, value)", "exponents_of": "(graph, paper)",
+    },
+    "loopgrowth.levels.beyond": {
+        "beyond": "(graph)", "doubling": "(graph)", "is_doubling": "(graph, value)",
+        "joined_doublings": "(graph, one, other)",
+    },
+    "loopgrowth.levels.growths": {
+        "growths": "(graph)", "growth": "(graph, thing)", "growth_paper": "(graph)",
+        "is_growth_paper": "(graph, value)", "growths_by": "(graph, paper)", "is_growth": "(value)",
+        "compared": "(growth, other)", "greatest_growth": "(*growths)", "steps_growth": "(graph)",
+    },
+    "loopgrowth.bounds.bounds": {
+        "bound": "(graph, thing)", "bounds": "(graph)", "level_bounds": "(graph, paper)",
+    },
     "loopgrowth.walks.recipes": {"is_items": "(graph, state, value)", "circuit": "(graph, amounts, state)"},
 }
 
@@ -38,6 +62,8 @@ METHODS = {
              " __eq__ __str__"),
     Balance: ("graph names parts rows meeting is_meeting fall effect_on added falling carried weighted gained __len__"
               " __eq__ __str__"),
+    Polynomial: ("of coefficients degree __call__ __getitem__ reach __add__ __radd__ __mul__ __rmul__ __pow__ at"
+                 " __iter__ __len__ __bool__ __eq__ __str__"),
 }
 
 SIGNATURES = {
@@ -48,6 +74,7 @@ SIGNATURES = {
     Machine.take_all: "(self, names)", Machine.walk: "(self, names)", Machine.back: "(self, *, many=1)",
     Machine.attempt: "(self, action)", Recipe: "(graph, *items, start=None)", Recipe.of: "(graph, items, start=None)",
     Recipe.after: "(self, loads)", Balance: "(graph, names, parts)", Balance.fall: "(self, meeting, name)",
+    Polynomial: "(*coefficients)", Polynomial.of: "(coefficients)", Polynomial.reach: "(self, goal)",
     Balance.effect_on: "(self, meeting, row)", Balance.added: "(self, meeting, other)",
 }
 
@@ -74,7 +101,7 @@ class TestInterface(unittest.TestCase):
     def test_constant(self):
         self.assertEqual(MAX_ITEMS, 100000)
 
-    def test_only_graphs_can_be_iterated_over(self):
+    def test_what_cannot_be_iterated_over(self):
         balance = Balance(SHUTTLE, SHUTTLE.names, {})
         for value in (Machine(SHUTTLE, 1), Recipe(SHUTTLE, "a"), balance):
             with self.assertRaises(TypeError):

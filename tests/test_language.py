@@ -20,7 +20,7 @@ join keys ljust lower lstrip partition pop remove replace reverse rfind rjust rp
 splitlines startswith strip update upper values zfill bit_length add discard
 """.split())
 ALLOWED_DUNDERS = set("""
-__init__ __eq__ __repr__ __str__ __len__ __enter__ __exit__ __call__ __iter__ __add__ __mul__ __pow__ __bool__
+__init__ __eq__ __repr__ __str__ __len__ __enter__ __exit__ __call__ __iter__ __add__ __radd__ __mul__ __rmul__ __pow__ __bool__
 __contains__ __getitem__ __ne__
 """.split())
 STATEMENTS = (

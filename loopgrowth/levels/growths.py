@@ -14,12 +14,12 @@ _CONSTANT = ("power", 0)
 
 def growths(graph):
     """A dict from all things to their growths."""
-    return growths_behind(climbed(graph, free(graph)))
+    return _growths_behind(graph, climbed(graph, free(graph)))
 
 
-def growths_behind(ascent):
+def _growths_behind(graph, ascent):
     """The growths that a finished ascent shows."""
-    things = sorted([*ascent.graph.counters, *ascent.graph.names])
+    things = sorted([*graph.counters, *graph.names])
     return {thing: _growth_behind(ascent, thing) for thing in things}
 
 
@@ -63,7 +63,7 @@ def growths_by(graph, paper):
     ascent = _ascent_by(graph, paper)
     if ascent is None:
         raise InvalidOperation("this is no growth paper")
-    return growths_behind(ascent)
+    return _growths_behind(graph, ascent)
 
 
 def is_growth(value):

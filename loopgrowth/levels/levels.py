@@ -11,13 +11,14 @@ from loopgrowth.values import is_natural
 class Ascent:
     """The way up through the levels of a graph, one meeting after the other, and what it has found so far.
 
-    The ranks are those of the free things; `kept` are the transitions T(0), T(1) .. of the document.
+    The ranks are those of the free things, `bounded` are the other counters, and `kept` are the transitions T(0), T(1)
+    .. of the document.
     """
 
     def __init__(self, graph, ranks):
-        self.graph = graph
+        self._graph = graph
         self.ranks = ranks
-        self.counters = tuple(counter for counter in graph.counters if counter not in ranks)
+        self.bounded = tuple(counter for counter in graph.counters if counter not in ranks)
         self.kept = [graph.names]
         self.meetings = []
         self.found = {}
@@ -25,20 +26,20 @@ class Ascent:
 
     def balance(self):
         """The balance of the next level."""
-        return Balance(self.graph, self.kept[-1], {counter: self._parts(counter) for counter in self.counters})
+        return Balance(self._graph, self.kept[-1], {counter: self._parts_of(counter) for counter in self.bounded})
 
-    def _parts(self, counter):
+    def _parts_of(self, counter):
         if counter not in self.found:
-            return (self.graph.states,)
-        return components(self.graph, self.kept[-self.found[counter]])
+            return (self._graph.states,)
+        return components(self._graph, self.kept[-self.found[counter]])
 
     def climb(self, meeting):
         """Goes one level up by a meeting of its balance, and returns the transitions and counters that it finds."""
         weights, _, amounts = meeting
         level = len(self.kept)
         names = tuple(name for name in self.kept[-1] if amounts[name] == 0)
-        counters = tuple(counter for counter in self.counters
-                         if counter not in self.found and weights[counter, self.graph.states] > 0)
+        counters = tuple(counter for counter in self.bounded
+                         if counter not in self.found and weights[counter, self._graph.states] > 0)
         self.ended = not names and not counters and level >= self._reach()
         for thing in names + counters:
             self.found[thing] = level
@@ -48,8 +49,8 @@ class Ascent:
 
     def _reach(self):
         """The sum of the greatest exponent of a counter and that of a transition."""
-        counters = [self.found[thing] for thing in self.found if thing in self.counters]
-        names = [self.found[thing] for thing in self.found if thing in self.graph]
+        counters = [self.found[thing] for thing in self.found if thing in self.bounded]
+        names = [self.found[thing] for thing in self.found if thing in self._graph]
         return max(counters, default=0) + max(names, default=0)
 
     def exponents(self):
@@ -58,7 +59,7 @@ class Ascent:
 
     def left(self):
         """The transitions that are carried, and the counters that are not free and have not been found."""
-        return self.kept[-1], tuple(counter for counter in self.counters if counter not in self.found)
+        return self.kept[-1], tuple(counter for counter in self.bounded if counter not in self.found)
 
 
 def climbed(graph, ranks):
