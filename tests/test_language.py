@@ -103,7 +103,9 @@ class TestLanguage(unittest.TestCase):
             for node in ast.walk(tree):
                 if isinstance(node, ast.stmt):
                     self.assertIsInstance(node, STATEMENTS)
-                self.assertNotIsInstance(node, (ast.Div, ast.Try, ast.Await, ast.Set))
+                self.assertNotIsInstance(node, (ast.Div, ast.Await, ast.Set))
+                if isinstance(node, ast.Try):
+                    self.assertEqual(([ast.unparse(one.type) for one in node.handlers], node.finalbody), (["KeyError"], []))
                 if isinstance(node, ast.Constant):
                     self.assertNotIsInstance(node.value, (float, complex, bytes))
                     if isinstance(node.value, str):

@@ -4,7 +4,7 @@ from loopgrowth.errors import InvalidNumber, InvalidOperation, InvalidRecipe, No
 from loopgrowth.graphs.checks import check_amounts, check_counter, check_graph, check_name, check_state
 from loopgrowth.graphs.parts import check_circulation, components, packed, rotated
 from loopgrowth.values import decimal, is_natural
-from loopgrowth.walks.stretches import first_name, room_behind, stretch_of, target_of, times
+from loopgrowth.walks.stretches import MAX_DEPTH, Ground, Laid, chained, ends_of, laid, repeated, times
 
 MAX_ITEMS = 100000
 
@@ -13,11 +13,8 @@ def is_items(graph, state, value):
     """Whether the value is items that can be walked from this state."""
     check_graph(graph)
     check_state(graph, state)
-    return _have_room(value) and target_of(graph, value, state) != ""
-
-
-def _have_room(value):
-    return room_behind(value, MAX_ITEMS, 0) >= 0
+    _, _, left = ends_of(Ground(graph, ()), value, state, MAX_ITEMS, 0)
+    return left >= 0
 
 
 def _check_start(graph, start):
@@ -25,10 +22,10 @@ def _check_start(graph, start):
         check_state(graph, start)
 
 
-def _start_of(graph, items):
-    """The state at which items begin that do not tell it."""
-    name = first_name(items)
-    return graph[name][1] if name in graph else graph.states[0]
+def _check_room(many, deep):
+    """Raises an error if items have more elements, or are nested deeper, than they may be."""
+    if many > MAX_ITEMS or deep > MAX_DEPTH:
+        raise InvalidRecipe("too many elements, or repeats that are nested too deep")
 
 
 class Recipe:
@@ -37,26 +34,24 @@ class Recipe:
     def __init__(self, graph, *items, start=None):
         check_graph(graph)
         _check_start(graph, start)
-        if not _have_room(items):
-            raise InvalidRecipe("these are no items")
-        begin = _start_of(graph, items) if start is None else start
-        end = target_of(graph, items, begin)
-        if end == "":
-            raise InvalidRecipe("these items cannot be walked from this state")
+        # Recipes that are made of others pass what is known of their items, so that these are not laid once more.
+        known = len(items) == 1 and isinstance(items[0], Laid)
+        told = items[0] if known else laid(graph, items, start, MAX_ITEMS)
+        if told is None:
+            raise InvalidRecipe("these are no items that can be walked")
         self._graph = graph
-        self._row = items
-        self._start = begin
-        self._end = end
-        self._stretch = stretch_of(graph, items)
+        self._laid = told
+        self._stretch = told.stretch
 
     @classmethod
     def of(cls, graph, items, start=None):
         """The recipe of a tuple of items."""
         check_graph(graph)
         _check_start(graph, start)
-        if not isinstance(items, tuple):
-            raise InvalidRecipe("the items are no tuple")
-        return cls(graph, *items, start=start)
+        told = laid(graph, items, start, MAX_ITEMS)
+        if told is None:
+            raise InvalidRecipe("these are no items that can be walked")
+        return cls(graph, told)
 
     @property
     def graph(self):
@@ -66,17 +61,17 @@ class Recipe:
     @property
     def row(self):
         """The items."""
-        return self._row
+        return self._laid.written
 
     @property
     def start(self):
         """The state at which the recipe starts."""
-        return self._start
+        return self._laid.source
 
     @property
     def end(self):
         """The state to which the recipe leads."""
-        return self._end
+        return self._laid.target
 
     @property
     def length(self):
@@ -99,7 +94,7 @@ class Recipe:
     def taken(self, name):
         """How often the transition is walked."""
         check_name(self._graph, name)
-        return times(self._row, name)
+        return times(self.row, name)
 
     def highest(self, counter):
         """The greatest sum of changes of the counter at any moment."""
@@ -122,15 +117,16 @@ class Recipe:
         return all([counter in value and is_natural(value[counter]) for counter in self._graph.counters])
 
     def __add__(self, other):
-        if not isinstance(other, Recipe) or other._graph != self._graph or other._start != self._end:
+        if not isinstance(other, Recipe) or other._graph != self._graph or other.start != self.end:
             raise InvalidOperation("this is no recipe that goes on where the first one ends")
-        items = self._row + other._row
-        return Recipe(self._graph, *items, start=self._start)
+        _check_room(self._laid.many + other._laid.many, 0)
+        return Recipe(self._graph, chained(self._graph, self._laid, other._laid))
 
     def __mul__(self, other):
-        if self._end != self._start or not is_natural(other):
+        if self.end != self.start or not is_natural(other):
             raise InvalidOperation("only a recipe that leads back can be repeated, and only so many times")
-        return Recipe(self._graph, (other, self._row), start=self._start)
+        _check_room(self._laid.many + 1, self._stretch.deep + 1)
+        return Recipe(self._graph, repeated(self._laid, other))
 
     def walk(self):
         """The names of the recipe, one by one."""
@@ -151,12 +147,12 @@ class Recipe:
         return bool(self._stretch.total > 0)
 
     def __eq__(self, other):
-        return (isinstance(other, Recipe) and self._graph == other._graph and self._start == other._start
-                and self._row == other._row)
+        return (isinstance(other, Recipe) and self._graph == other._graph and self.start == other.start
+                and self._laid.written == other._laid.written)
 
     def __str__(self):
         many = decimal(self._stretch.total)
-        return f"recipe of {many} transitions from {self._start} to {self._end}"
+        return f"recipe of {many} transitions from {self.start} to {self.end}"
 
 
 def circuit(graph, amounts, state):
