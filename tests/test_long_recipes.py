@@ -140,6 +140,27 @@ class TestLongRecipes(unittest.TestCase):
             with self.assertRaises(InvalidRecipe):
                 Recipe.of(LOOPS, value)
 
+    def test_elements_and_depth_of_what_was_joined(self):
+        one = Recipe(LOOPS, "a")
+        told = Recipe.of(LOOPS, ("a",) * (LIMIT - 3)) * 2 + one
+        self.assertEqual((told + one).length, 2 * LIMIT - 4)
+        with self.assertRaises(InvalidRecipe):
+            told + one + one
+        with self.assertRaises(InvalidRecipe):
+            (told + one) * 2
+        for inner in ((), ("a",), ((0, ("a",)), "b"), ((0, ()),), ((10 ** 30, ()), (0, ((1, ("b",)),)))):
+            deepest = 60 - (0 if inner in ((), ("a",)) else 2 if len(inner) == 2 and inner[1] != "b" else 1)
+            for rounds in (0, 1, 3):
+                items = inner
+                for _ in range(deepest - 1):
+                    items = ((rounds, items),)
+                told = Recipe.of(LOOPS, items) * 3
+                self.assertEqual(told, Recipe.of(LOOPS, told.row))
+                for call in (lambda: told * 1, lambda: (told + one) * 1, lambda: (one + told) * 1):
+                    with self.assertRaises(InvalidRecipe):
+                        call()
+                self.assertIs(is_items(LOOPS, "p", ((1, told.row),)), False)
+
     def test_one_wrong_element(self):
         source = random.Random(84)
         rows = [("a",) * 2000, ("a", "b") * 1000, row_of(source, MANY, 2000), row_of(source, RING, 2000),

@@ -103,7 +103,7 @@ def rest(graph):
 def level_balance(graph, level):
     """The balance of a level."""
     check_graph(graph)
-    if not is_natural(level) or level == 0:
+    if not is_natural(level):
         raise InvalidNumber(level)
     ascent = Ascent(graph, free(graph))
     while not ascent.ended:
