@@ -145,5 +145,6 @@ def scaled_meeting(meeting, one, two, shift=0):
 def scaled_papers(paper):
     """Papers with other meetings in the same places; papers may be nested."""
     if isinstance(paper, tuple) and len(paper) == 3 and all(isinstance(told, dict) for told in paper):
-        return [scaled_meeting(paper, 7, 1), scaled_meeting(paper, 1, 10 ** 90, 5), scaled_meeting(paper, 3, 2, -10 ** 30)]
+        return [scaled_meeting(paper, 7, 1), scaled_meeting(paper, 1, 10 ** 90, 5),
+                scaled_meeting(paper, 3, 2, -10 ** 30)]
     return [tuple(told) for told in zip(*[scaled_papers(one) for one in paper])]

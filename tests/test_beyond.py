@@ -141,7 +141,8 @@ class TestDoublings(unittest.TestCase):
     def test_one_thing_otherwise(self):
         right = 0
         for graph in doubling_graphs()[:12]:
-            for told in (doubling(graph), ({**dict.fromkeys(graph.names, 0), **doubling(graph)[0]}, doubling(graph)[1])):
+            amounts, counters = doubling(graph)
+            for told in ((amounts, counters), ({**dict.fromkeys(graph.names, 0), **amounts}, counters)):
                 for value in changed_values(told):
                     expected = is_doubling_by(graph, free(graph), value)
                     self.assertIs(is_doubling(graph, value), expected, value)
@@ -170,7 +171,8 @@ class TestDoublings(unittest.TestCase):
         self.assertGreater(checked, 10000)
 
     def test_values_of_every_kind(self):
-        bad = [({}, ("x",)), ({"a": 0}, ("x",)), ({}, ()), ({"a": 3, "b": 2}, ("y", "x")), ({"a": 3, "b": 2}, ["x", "y"]),
+        bad = [({}, ("x",)), ({"a": 0}, ("x",)), ({}, ()), ({"a": 3, "b": 2}, ("y", "x")),
+               ({"a": 3, "b": 2}, ["x", "y"]),
                ({"a": 3, "b": 2}, ()), ({"a": 3, "b": 2}, ("x", "x", "y")), ({"a": 3, "b": 2, "c": 0}, ("x", "y")),
                ({"a": 3, "b": 2, "go": 1}, ("x", "y")), ({"a": 3, "b": 2}, ("x", "y", "z")), ({"a": 3}, ("x", "y")),
                [{"a": 3, "b": 2}, ("x", "y")], ({"a": 3, "b": 2},), ({"a": 3, "b": 2}, ("x", "y"), ()),

@@ -88,12 +88,14 @@ class TestBounds(unittest.TestCase):
         every = ("p", "q")
         first = ({("x", every): 1, ("y", every): 1, ("z", every): 2}, {"p": 1, "q": 0},
                  {"a": 1, "b": 1, "back": 0, "go": 0})
-        rows = {("x", ("p",)): 2, ("y", ("p",)): 1, ("x", ("q",)): 1, ("y", ("q",)): 2, ("z", ("p",)): 1, ("z", ("q",)): 1}
+        rows = {("x", ("p",)): 2, ("y", ("p",)): 1, ("x", ("q",)): 1, ("y", ("q",)): 2, ("z", ("p",)): 1,
+                ("z", ("q",)): 1}
         second = (rows, {"p": 0, "q": 0}, {"a": 0, "b": 0})
         third = ({}, {"p": 0, "q": 0}, {})
         told = level_bounds(SHUTTLE, (first, second, third))
         # G(1) = 4 n + 1, and G(2) = 5 n + G(1) * (5 + 2 G(1) + 2 G(1) + G(1)).
-        self.assertEqual(told, {1: Polynomial(1, 4), 2: Polynomial(0, 5) + Polynomial(1, 4) * (Polynomial(1, 4) * 5 + 5)})
+        one = Polynomial(1, 4)
+        self.assertEqual(told, {1: one, 2: Polynomial(0, 5) + one * (one * 5 + 5)})
 
     def test_degrees_and_things(self):
         for graph in many_graphs():

@@ -214,7 +214,8 @@ class TestEndlessWalks(unittest.TestCase):
                     with self.assertRaises(InvalidGraph):
                         call(value)
             for call in (lambda one: endless(SHUTTLE, one), lambda one: endless_paper(SHUTTLE, one),
-                         lambda one: is_endless_paper(SHUTTLE, one, None), lambda one: endless_walk(SHUTTLE, one, None)):
+                         lambda one: is_endless_paper(SHUTTLE, one, None),
+                         lambda one: endless_walk(SHUTTLE, one, None)):
                 if not isinstance(value, tuple):
                     with self.assertRaises(InvalidOperation):
                         call(value)

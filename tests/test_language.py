@@ -20,7 +20,8 @@ join keys ljust lower lstrip partition pop remove replace reverse rfind rjust rp
 splitlines startswith strip update upper values zfill bit_length add discard
 """.split())
 ALLOWED_DUNDERS = set("""
-__init__ __eq__ __repr__ __str__ __len__ __enter__ __exit__ __call__ __iter__ __add__ __radd__ __mul__ __rmul__ __pow__ __bool__
+__init__ __eq__ __repr__ __str__ __len__ __enter__ __exit__ __call__ __iter__ __bool__
+__add__ __radd__ __mul__ __rmul__ __pow__
 __contains__ __getitem__ __ne__
 """.split())
 STATEMENTS = (
@@ -105,7 +106,8 @@ class TestLanguage(unittest.TestCase):
                     self.assertIsInstance(node, STATEMENTS)
                 self.assertNotIsInstance(node, (ast.Div, ast.Await, ast.Set))
                 if isinstance(node, ast.Try):
-                    self.assertEqual(([ast.unparse(one.type) for one in node.handlers], node.finalbody), (["KeyError"], []))
+                    self.assertEqual([ast.unparse(one.type) for one in node.handlers], ["KeyError"])
+                    self.assertEqual(node.finalbody, [])
                 if isinstance(node, ast.Constant):
                     self.assertNotIsInstance(node.value, (float, complex, bytes))
                     if isinstance(node.value, str):

@@ -15,7 +15,8 @@ from samples import (DOUBLE, EMPTY, FOURTH, PUMP, SHUTTLE, SIXTH, SQUARE, change
 from sums import carried_by, levels_by, parts_of
 
 # w has no transition that changes it, u is free, and z pays for the ways.
-MIXED = graph_of("u w x y z", "a p p: x-1 y+1", "b q q: x+1 y-1", "c q q: u+1", "go p q:", "back q p: z-1", "d p p: u-1 y-1")
+MIXED = graph_of("u w x y z", "a p p: x-1 y+1", "b q q: x+1 y-1", "c q q: u+1", "d p p: u-1 y-1", "go p q:",
+                 "back q p: z-1")
 LONELY = Graph(("x", "y"), states=("p",))
 
 

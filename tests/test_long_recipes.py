@@ -81,7 +81,8 @@ class TestLongRecipes(unittest.TestCase):
             self.assertEqual((told.row, told.length, told.start, told.end), (((2, row),), 2 * len(row), "p", "p"))
             self.assertEqual((told.effect, told.highest("x"), told.needs), ({"x": 2 * row.count("a")},
                                                                             2 * row.count("a"), {"x": 0}))
-            self.assertEqual((told[len(row)], told[len(row) + 1], told.taken("b")), (row[0], row[1], 2 * row.count("b")))
+            self.assertEqual((told[len(row)], told[len(row) + 1]), row[:2])
+            self.assertEqual(told.taken("b"), 2 * row.count("b"))
             self.assertIs(is_items(LOOPS, "p", told.row), True)
             self.assertEqual(told, Recipe.of(LOOPS, told.row))
         wide = Recipe.of(LOOPS, ("a",) * LIMIT)
@@ -125,7 +126,8 @@ class TestLongRecipes(unittest.TestCase):
         row = one.row + back.row + other.row
         told = one + back + other
         state, length, effect, needs, highest = sums_of(RING, row, "p")
-        self.assertEqual((told.row, told.end, told.length, told.effect, told.needs), (row, state, length, effect, needs))
+        self.assertEqual((told.row, told.end, told.length), (row, state, length))
+        self.assertEqual((told.effect, told.needs), (effect, needs))
         self.assertEqual({counter: told.highest(counter) for counter in "xy"}, highest)
         for at in (0, 49999, 50000, 50001, 70000, length - 1):
             self.assertEqual(told[at], row[at])
@@ -189,7 +191,8 @@ class TestLongRecipes(unittest.TestCase):
                              ((2, ((1, ("a",)),)), (2, ((True, ("a",)),)))]:
             for many in (1, 13, 480, 1000):
                 self.assertIs(is_items(LOOPS, "p", (right,) * many), True)
-                for value in ((right,) * many + (wrong,) * many, (wrong,) + (right,) * many, (right,) * many + (wrong,)):
+                row = (right,) * many
+                for value in (row + (wrong,) * many, (wrong,) + row, row + (wrong,)):
                     self.assertIs(is_items(LOOPS, "p", value), False)
                     with self.assertRaises(InvalidRecipe):
                         Recipe.of(LOOPS, value)
@@ -219,7 +222,8 @@ class TestLongRecipes(unittest.TestCase):
             told = told * 3
             length, gained = 3 * length, 3 * gained
         self.assertEqual((told.length, told.effect, told.taken("a")), (length, {"x": gained}, gained))
-        self.assertEqual((told[0], told[length - 1], told[length // 2]), ("b", "b", Recipe.of(LOOPS, told.row)[length // 2]))
+        self.assertEqual((told[0], told[length - 1]), ("b", "b"))
+        self.assertEqual(told[length // 2], Recipe.of(LOOPS, told.row)[length // 2])
         with self.assertRaises(InvalidRecipe):
             told * 2
         self.assertEqual((told + Recipe(LOOPS, "a")).length, length + 1)

@@ -12,7 +12,8 @@ GREAT = 10 ** 999
 
 def some_coefficients():
     source = random.Random(121)
-    told = [(), (0,), (1,), (7,), (0, 0), (0, 1), (5, 0, 0), (3, 1, 2), (0, 0, 1), (1, 1), (0, GREAT), (GREAT, 1, GREAT)]
+    told = [(), (0,), (1,), (7,), (0, 0), (0, 1), (5, 0, 0), (3, 1, 2), (0, 0, 1), (1, 1), (0, GREAT),
+            (GREAT, 1, GREAT)]
     for _ in range(60):
         greatest = source.choice((1, 9, 10 ** 30))
         told.append(tuple(source.randint(0, greatest) for _ in range(source.randint(0, 7))))
@@ -70,7 +71,8 @@ class TestPolynomials(unittest.TestCase):
                 self.assertIsInstance(p, Polynomial)
                 self.assertEqual((p.coefficients, p.degree), (stripped(told), len(stripped(told)) - 1))
                 self.assertIs(type(p.coefficients), tuple)
-                self.assertEqual((len(p), list(p), tuple(p)), (len(stripped(told)), list(p.coefficients), p.coefficients))
+                self.assertEqual((len(p), list(p), tuple(p)),
+                                 (len(stripped(told)), list(p.coefficients), p.coefficients))
                 self.assertIs(bool(p), stripped(told) != ())
 
     def test_values_and_items(self):

@@ -9,7 +9,7 @@ from loopgrowth.levels.ranks import free, free_walk, is_ranks_paper, ranks_paper
 from loopgrowth.walks.recipes import Recipe
 from samples import (DOUBLE, EMPTY, PUMP, SHUTTLE, SIXTH, changed_values, graph_of, loop_graph, odd_names, odd_values,
                      scaled_papers)
-from sums import endless_by, greatest_numbers, long_sums, ranks_by
+from sums import greatest_numbers, long_sums, ranks_by
 
 # Each counter can be raised as often as one likes by a loop that lessens the one ahead of it.
 LADDER = graph_of("u v w x y", "a p p: u+1", "b p p: u-1 v+1", "c q q: u-1 v+1", "d r r: v-1 w+1", "e s s: w-1 x+1",
@@ -23,7 +23,8 @@ STILL = graph_of("x y", "a p p: x-1 y+1", "b p p: x+1 y-1", "c p q: x-1", "d q p
 
 
 def many_graphs():
-    return [SHUTTLE, DOUBLE, PUMP, EMPTY, SIXTH, LADDER, LATE, HIDDEN, STILL] + [loop_graph(seed) for seed in range(150)]
+    return [SHUTTLE, DOUBLE, PUMP, EMPTY, SIXTH, LADDER, LATE, HIDDEN, STILL] + \
+        [loop_graph(seed) for seed in range(150)]
 
 
 def closed_walk_ranks(graph, longest):
