@@ -136,7 +136,7 @@ class Stretch:
 def _stretch_of(ground, items):
     """The stretch of items that can be walked."""
     if len(items) == 1:
-        return _named(ground, items) if isinstance(items[0], str) else _repeat(ground, items[0])
+        return _single(ground, items) if isinstance(items[0], str) else _repeat(ground, items[0])
     layer = []
     known = {}
     last, part = (), None
@@ -156,6 +156,14 @@ def _stretch_of(ground, items):
 
 def _are_strings(values):
     return len([value for value in values if isinstance(value, str)]) == len(values)
+
+
+def _single(ground, names):
+    """The stretch of a row of one name."""
+    gains = tuple([changes[names[0]] for changes in ground.changes])
+    least = tuple([gain if gain < 0 else 0 for gain in gains])
+    most = tuple([gain if gain > 0 else 0 for gain in gains])
+    return Stretch(names, (), 1, gains, least, most, 0, 0)
 
 
 def _named(ground, names):
