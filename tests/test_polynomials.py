@@ -118,6 +118,59 @@ class TestPolynomials(unittest.TestCase):
                 n = p.reach(goal)
                 self.assertTrue(n ** degree >= goal > (n - 1) ** degree)
 
+    def check_reach(self, p, goal):
+        """Checks the least n by the values of the polynomial."""
+        n = p.reach(goal)
+        if n is None:
+            self.assertTrue(p.degree < 1 and p(0) < goal, (p.coefficients, goal))
+        else:
+            self.assertIs(type(n), int)
+            self.assertTrue(p(n) >= goal and (n == 0 or p(n - 1) < goal), (p.coefficients, goal))
+        return n
+
+    def test_reach_of_goals_of_any_size(self):
+        source = random.Random(1211)
+        goals = [0, 1, 2, 10 ** 900, GREAT - 1, GREAT, GREAT + 1] + \
+            [10 ** power + less for power in range(0, 1000, 37) for less in (-1, 0, 1)]
+        for degree in range(-1, 7):
+            for greatest in (0, 1, 9, 10 ** 40, 10 ** 400):
+                p = Polynomial(*[source.randint(0, greatest) for _ in range(degree)],
+                               *[source.randint(1, max(1, greatest)) for _ in range(min(1, degree + 1))])
+                self.assertEqual(p.degree, degree)
+                for goal in goals:
+                    self.check_reach(p, goal)
+
+    def test_reach_beside_values(self):
+        source = random.Random(1212)
+        for degree in range(-1, 7):
+            for greatest in (0, 1, 9, 10 ** 30, 10 ** 300):
+                coefficients = [source.choice((0, source.randint(0, greatest))) for _ in range(degree)]
+                p = Polynomial(*coefficients, *[1 + greatest for _ in range(min(1, degree + 1))])
+                for digits in (1, 2, 5, 20, 99, 160, 333, 499, 998):
+                    if digits * degree + len(str(greatest)) <= 999:
+                        n = source.randint(10 ** (digits - 1), 10 ** digits)
+                        worth = p(n)
+                        told = [self.check_reach(p, goal) for goal in (max(worth - 1, 0), worth, worth + 1)]
+                        if degree > 0:
+                            self.assertEqual((told[1], told[2]), (n, n + 1))
+
+    def test_reach_just_above_a_great_constant(self):
+        for degree in range(1, 7):
+            p = Polynomial(GREAT, *[0] * (degree - 1), 1)
+            self.assertEqual([p.reach(GREAT + more) for more in (0, 1, 2, 2 ** degree, 2 ** degree + 1)],
+                             [0, 1, 2, 2, 3])
+            q = Polynomial(*[1] * degree, GREAT)
+            self.assertEqual([q.reach(goal) for goal in (1, 2, GREAT, GREAT + degree, GREAT + degree + 1)],
+                             [0, 1, 1, 1, 2])
+
+    def test_reach_of_long_polynomials(self):
+        source = random.Random(1213)
+        for degree in (7, 13, 30, 75, 300):
+            for p in (Polynomial(*[source.randint(0, 10 ** 20) for _ in range(degree)], 1),
+                      Polynomial(*[0] * degree, 3), Polynomial(*[1] * (degree + 1))):
+                for goal in (1, 2, 3, 4, 10 ** 30, 10 ** 500, GREAT, p(7), p(7) - 1, p(7) + 1):
+                    self.check_reach(p, goal)
+
     def test_sums_and_products(self):
         every = some_coefficients()
         for one in every[:40]:

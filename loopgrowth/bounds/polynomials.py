@@ -45,6 +45,86 @@ def _term(many, power):
     return f"{times}n" if power == 1 else f"{times}n^{power}"
 
 
+def _value(coefficients, n):
+    total = 0
+    for number in coefficients[::-1]:
+        total = total * n + number
+    return total
+
+
+def _slopes(coefficients):
+    """The coefficients of the slope."""
+    return [at * coefficients[at] for at in range(1, len(coefficients))]
+
+
+def _least_place(coefficients, goal):
+    """The least n at which the value is at least the goal; the degree is at least 1, and 0 is too low."""
+    # Without the constant, what is asked for does not hang on a small rest of two great numbers.
+    raised, missing = (0,) + coefficients[1:], goal - coefficients[0]
+    slopes = _slopes(raised)
+    many = _binary_digits(raised, missing)
+    if many <= _few_digits(raised):
+        return _least_by_halves(raised, missing, many)
+    at = _near_place(raised, missing, many)
+    step = 1
+    # The slopes never fall, so that each step ends where the goal is reached, and from there none goes below it.
+    while step != 0:
+        step = (_value(raised, at) - missing) // _value(slopes, at)
+        at = at - step
+    while _value(raised, at - 1) >= missing:
+        at = at - 1
+    return at
+
+
+def _binary_digits(coefficients, goal):
+    """How many binary digits the least place that reaches the goal has at most."""
+    many = goal.bit_length() + 1
+    return min([max(many - coefficients[at].bit_length(), 0) // at + 1
+                for at in range(1, len(coefficients)) if coefficients[at] > 0])
+
+
+def _lost_digits(coefficients):
+    """A step by the slope doubles the binary digits that are right, but for so many."""
+    return len(coefficients).bit_length() + 2
+
+
+def _few_digits(coefficients):
+    """So many binary digits are found one by one."""
+    return 3 * _lost_digits(coefficients)
+
+
+def _near_place(coefficients, goal, many):
+    """A place near the least one that reaches the goal; half of its binary digits are looked for first."""
+    degree = len(coefficients) - 1
+    if degree == 1:
+        return 1
+    if many <= _few_digits(coefficients):
+        return _least_by_halves(coefficients, goal, many + 1)
+    lost = _lost_digits(coefficients)
+    cut = (many - lost) // 2
+    # Of the values those digits are kept that count when `cut` digits of the place are left out.
+    less = max(goal.bit_length() - (degree + 1) * (many - cut) - lost, 0)
+    coarse = [_shifted(number, cut * at - less) for at, number in enumerate(coefficients)]
+    place = _near_place(coarse, goal >> less, many - cut) << cut
+    return place - (_value(coefficients, place) - goal) // _value(_slopes(coefficients), place)
+
+
+def _shifted(number, by):
+    return number << by if by > 0 else number >> -by
+
+
+def _least_by_halves(coefficients, goal, many):
+    """The least place that reaches the goal, or the one behind all those with so many binary digits."""
+    low, high = 0, 1 << many
+    while high - low > 1:
+        middle = (low + high) // 2
+        if _value(coefficients, middle) >= goal:
+            high = middle
+        else:
+            low = middle
+    return high
+
+
 class Polynomial:
     """A polynomial; it never changes. The coefficient at position k belongs to n ** k."""
 
@@ -72,13 +152,7 @@ class Polynomial:
 
     def __call__(self, n):
         check_number(n)
-        return self._worth(n)
-
-    def _worth(self, n):
-        total = 0
-        for number in self._coefficients[::-1]:
-            total = total * n + number
-        return total
+        return _value(self._coefficients, n)
 
     def __getitem__(self, at):
         if not is_natural(at):
@@ -88,19 +162,11 @@ class Polynomial:
     def reach(self, goal):
         """The least n at which the value is at least the goal, or None."""
         check_number(goal)
-        if self._worth(0) >= goal:
+        if _value(self._coefficients, 0) >= goal:
             return 0
         if self.degree < 1:
             return None
-        # The value at `high` reaches the goal: its power alone has more binary digits.
-        low, high = 0, 1 << (goal.bit_length() // self.degree + 1)
-        while high - low > 1:
-            middle = (low + high) // 2
-            if self._worth(middle) >= goal:
-                high = middle
-            else:
-                low = middle
-        return high
+        return _least_place(self._coefficients, goal)
 
     def __add__(self, other):
         coefficients = _sums(self._coefficients, _factor(other))
