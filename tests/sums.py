@@ -284,3 +284,72 @@ def is_doubling_by(graph, free, value):
                      if lies(graph, name, part)) < 0 for part in parts_of(graph, support)):
             return False
     return True
+
+
+def repeated_sums(one, many):
+    """The same for many rounds of a walk, without doubling: only the first and the last round count."""
+    if many == 0:
+        return (0, [0] * len(one[1]), [0] * len(one[1]), [0] * len(one[1]), dict.fromkeys(one[4], 0))
+    ahead = [(many - 1) * a for a in one[1]]
+    return (many * one[0], [many * a for a in one[1]],
+            [min(low, a + low) for low, a in zip(one[2], ahead)],
+            [max(high, a + high) for high, a in zip(one[3], ahead)],
+            {name: many * count for name, count in one[4].items()})
+
+
+def quick_sums(graph, items):
+    """The same as long_sums, also for numbers with very many digits."""
+    zeros = [0] * len(graph.counters)
+    total = (0, zeros, zeros, zeros, dict.fromkeys(graph.names, 0))
+    for item in items:
+        if isinstance(item, str):
+            change = [dict(graph[item][3]).get(counter, 0) for counter in graph.counters]
+            one = (1, change, [min(0, a) for a in change], [max(0, a) for a in change],
+                   {name: int(name == item) for name in graph.names})
+        else:
+            one = repeated_sums(quick_sums(graph, item[1]), item[0])
+        total = join(total, one)
+    return total
+
+
+def end_of(graph, items, state):
+    """Where items lead from a state; None if they cannot be walked. Repeats are walked once, and have to lead back."""
+    for item in items:
+        if isinstance(item, str):
+            if graph[item][1] != state:
+                return None
+            state = graph[item][2]
+        elif item[1]:
+            source = first_source(graph, item[1])
+            if source is not None and end_of(graph, item[1], source) != source:
+                return None
+            if source is not None and source != state:
+                return None
+    return state
+
+
+def first_source(graph, items):
+    """The source of the first transition that is written in items, or None."""
+    for item in items:
+        source = graph[item][1] if isinstance(item, str) else first_source(graph, item[1])
+        if source is not None:
+            return source
+    return None
+
+
+def need_and_goal(graph, thing, size, recipe):
+    """The greatest need of a recipe, and the greatest goal that it reaches from a size, if that is enough."""
+    _, _, low, high, counts = quick_sums(graph, recipe.row)
+    need = max([-least for least in low])
+    if thing in counts:
+        return need, counts[thing]
+    return need, size + high[graph.counters.index(thing)]
+
+
+def root_of(goal, exponent):
+    """The greatest r with r ** exponent <= goal."""
+    low, high = 0, 1 << (goal.bit_length() // exponent + 2)
+    while high - low > 1:
+        middle = (low + high) // 2
+        low, high = (middle, high) if middle ** exponent <= goal else (low, middle)
+    return low

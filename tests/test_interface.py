@@ -5,6 +5,7 @@ import inspect
 import unittest
 from pathlib import Path
 
+from loopgrowth.bounds.force import MAX_MET
 from loopgrowth.bounds.polynomials import Polynomial
 from loopgrowth.graphs.graphs import Graph
 from loopgrowth.levels.balances import Balance
@@ -49,6 +50,17 @@ FUNCTIONS = {
     },
     "loopgrowth.bounds.bounds": {
         "bound": "(graph, thing)", "bounds": "(graph)", "level_bounds": "(graph, paper)",
+    },
+    "loopgrowth.bounds.growing": {
+        "scale": "(graph)", "growing": "(graph, thing, goal)", "reaches": "(graph, thing, goal, size, recipe)",
+    },
+    "loopgrowth.bounds.force": {
+        "met": "(graph, size, *, without=())", "longest": "(graph, size, *, without=())",
+        "greatest": "(graph, thing, size, *, without=())", "greatest_run": "(graph, thing, size, *, without=())",
+    },
+    "loopgrowth.change.operations": {
+        "scaled": "(graph, counter, factor)", "counted": "(graph, name, counter)", "copied": "(graph, name, other)",
+        "halved": "(graph, name, other, state)", "joined": "(one, other, state)", "allows": "(graph, other)",
     },
     "loopgrowth.walks.recipes": {"is_items": "(graph, state, value)", "circuit": "(graph, amounts, state)"},
 }
@@ -98,8 +110,8 @@ class TestInterface(unittest.TestCase):
         for call, parameters in SIGNATURES.items():
             self.assertEqual(str(inspect.signature(call)), parameters)
 
-    def test_constant(self):
-        self.assertEqual(MAX_ITEMS, 100000)
+    def test_constants(self):
+        self.assertEqual([MAX_ITEMS, MAX_MET], [100000, 3000])
 
     def test_what_cannot_be_iterated_over(self):
         balance = Balance(SHUTTLE, SHUTTLE.names, {})

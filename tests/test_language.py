@@ -38,6 +38,8 @@ BARRED_WORDS = re.compile(r"\b(type|typing|typing_extensions|enum|Enum|IntEnum|S
                           r"|ABC|ABCMeta|namedtuple|NamedTuple|TypedDict|TYPE_CHECKING|abstractmethod)\b")
 AT_ONCE = ("zip", "enumerate", "reversed", "range", "map")
 VIEWS = ("items", "keys", "values")
+BARRED_STARTS = ("_wall", "_pe_", "_dcw_", "_enum_", "_cm_", "_twin_re_", "_lay_", "_law_", "_stub_", "_sre")
+BARRED_WHOLE = re.compile(r"(_cold|_tuplegetter|_outside|_record|_written_out|_member_names)[0-9_]*")
 TAKERS = ("list", "tuple", "dict", "sorted", "sum", "any", "all", "enumerate", "zip", "bytes", "min", "max")
 
 
@@ -134,7 +136,8 @@ class TestLanguage(unittest.TestCase):
             self.assertNotIn("_", used)
             for name in stored | bound:
                 plain = name in ALLOWED_DUNDERS or name == "__slots__" or not name.startswith("__")
-                self.assertTrue(plain and not name.startswith(("_wall", "_pe_", "_dcw_", "_law_", "_lay_")), name)
+                self.assertTrue(plain and not name.startswith(BARRED_STARTS), name)
+                self.assertIsNone(BARRED_WHOLE.fullmatch(name))
 
     def test_words(self):
         for _, text, tree in self.each():

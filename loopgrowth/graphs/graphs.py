@@ -101,6 +101,7 @@ class Graph:
         self._rows = tuple(sorted(transitions))
         self._names = tuple(row[0] for row in self._rows)
         self._by_name = {row[0]: row for row in self._rows}
+        self._kept = {}
 
     @classmethod
     def of(cls, counters, transitions, states=()):
@@ -223,3 +224,14 @@ class Graph:
 
 def _renamed_change(change, counters):
     return tuple(sorted([(counters[counter], amount) for counter, amount in change]))
+
+
+def kept(graph, word):
+    """What has been found out about this graph and is kept under this word, or None."""
+    return graph._kept.get(word)
+
+
+def keep(graph, word, value):
+    """Keeps what has been found out about this graph: as it never changes, this stays true."""
+    graph._kept[word] = value
+    return value

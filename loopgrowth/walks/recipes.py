@@ -165,23 +165,31 @@ def circuit(graph, amounts, state):
     parts = components(graph, support)
     if support and (len(parts) > 1 or state not in parts[0]):
         raise InvalidOperation("the transitions do not hang together at this state")
-    items = _round_trip(graph, state, list(packed(graph, amounts)))
-    return Recipe.of(graph, tuple(items), state)
+    return Recipe.of(graph, round_trip(graph, amounts, state, {}), state)
 
 
-def _round_trip(graph, state, waiting):
+def round_trip(graph, amounts, state, stops):
+    """Items from this state back to it that take each transition as often as the amounts say.
+
+    The transitions with more than 0 hang together there. `stops` is a dict from some of their states to items that are
+    put in where the state is met first; none of these are put into a repeat.
+    """
+    return tuple(_round_trip(graph, state, list(packed(graph, amounts)), dict(stops)))
+
+
+def _round_trip(graph, state, waiting, stops):
     """Items from this state back to it that walk all waiting cycles that hang together with it."""
     here = [(cycle, many) for cycle, many in waiting if state in _sources(graph, cycle)]
     for pair in here:
         waiting.remove(pair)
-    items = []
+    items = list(stops.pop(state, ()))
     for cycle, many in here:
         turned = rotated(cycle, _sources(graph, cycle).index(state))
         items.append((many - 1, turned))
         # The last round is written out, so that there is a place for what hangs on its states.
         for name in turned:
             items.append(name)
-            items.extend(_round_trip(graph, graph[name][2], waiting))
+            items.extend(_round_trip(graph, graph[name][2], waiting, stops))
     return items
 
 

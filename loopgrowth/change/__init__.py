@@ -1,0 +1,1 @@
+"""Other graphs, made of graphs."""
