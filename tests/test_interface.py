@@ -9,6 +9,8 @@ from loopgrowth.bounds.force import MAX_MET
 from loopgrowth.bounds.polynomials import Polynomial
 from loopgrowth.graphs.graphs import Graph
 from loopgrowth.levels.balances import Balance
+from loopgrowth.live.workshop import MAX_GRAPHS, Workshop
+from loopgrowth.text.shell import Shell
 from loopgrowth.walks.machine import Machine
 from loopgrowth.walks.recipes import MAX_ITEMS, Recipe
 from samples import SHUTTLE
@@ -62,6 +64,14 @@ FUNCTIONS = {
         "scaled": "(graph, counter, factor)", "counted": "(graph, name, counter)", "copied": "(graph, name, other)",
         "halved": "(graph, name, other, state)", "joined": "(one, other, state)", "allows": "(graph, other)",
     },
+    "loopgrowth.language.programs": {
+        "is_program": "(value)", "compiled": "(program)", "program_text": "(program)", "read_program": "(text)",
+        "listing": "(program)",
+    },
+    "loopgrowth.text.formats": {
+        "graph_text": "(graph)", "growth_text": "(growth)", "table_text": "(graph)", "recipe_text": "(recipe)",
+        "read_graph": "(text)", "read_growth": "(text)", "read_recipe": "(graph, text)",
+    },
     "loopgrowth.walks.recipes": {"is_items": "(graph, state, value)", "circuit": "(graph, amounts, state)"},
 }
 
@@ -76,6 +86,9 @@ METHODS = {
               " __eq__ __str__"),
     Polynomial: ("of coefficients degree __call__ __getitem__ reach __add__ __radd__ __mul__ __rmul__ __pow__ at"
                  " __iter__ __len__ __bool__ __eq__ __str__"),
+    Workshop: ("names log watches __getitem__ growth make make_all undo redo watch unwatch news trial attempt twin"
+               " __iter__ __contains__ __len__ __eq__ __str__"),
+    Shell: "do do_all present log workshop __len__",
 }
 
 SIGNATURES = {
@@ -87,6 +100,11 @@ SIGNATURES = {
     Machine.attempt: "(self, action)", Recipe: "(graph, *items, start=None)", Recipe.of: "(graph, items, start=None)",
     Recipe.after: "(self, loads)", Balance: "(graph, names, parts)", Balance.fall: "(self, meeting, name)",
     Polynomial: "(*coefficients)", Polynomial.of: "(coefficients)", Polynomial.reach: "(self, goal)",
+    Workshop: "()", Workshop.growth: "(self, name, thing)", Workshop.make: "(self, *edits)",
+    Workshop.make_all: "(self, step)", Workshop.undo: "(self, *, many=1)", Workshop.redo: "(self, *, many=1)",
+    Workshop.watch: "(self, name, thing)", Workshop.unwatch: "(self, name, thing)", Workshop.news: "(self)",
+    Workshop.trial: "(self)", Workshop.attempt: "(self, action)", Workshop.twin: "(self)",
+    Shell: "(workshop=None)", Shell.do: "(self, line)", Shell.do_all: "(self, lines)", Shell.workshop: "(self)",
     Balance.effect_on: "(self, meeting, row)", Balance.added: "(self, meeting, other)",
 }
 
@@ -111,11 +129,11 @@ class TestInterface(unittest.TestCase):
             self.assertEqual(str(inspect.signature(call)), parameters)
 
     def test_constants(self):
-        self.assertEqual([MAX_ITEMS, MAX_MET], [100000, 3000])
+        self.assertEqual([MAX_ITEMS, MAX_MET, MAX_GRAPHS], [100000, 3000, 20])
 
     def test_what_cannot_be_iterated_over(self):
         balance = Balance(SHUTTLE, SHUTTLE.names, {})
-        for value in (Machine(SHUTTLE, 1), Recipe(SHUTTLE, "a"), balance):
+        for value in (Machine(SHUTTLE, 1), Recipe(SHUTTLE, "a"), balance, Shell()):
             with self.assertRaises(TypeError):
                 iter(value)
             with self.assertRaises(TypeError):

@@ -22,7 +22,7 @@ splitlines startswith strip update upper values zfill bit_length add discard
 ALLOWED_DUNDERS = set("""
 __init__ __eq__ __repr__ __str__ __len__ __enter__ __exit__ __call__ __iter__ __bool__
 __add__ __radd__ __mul__ __rmul__ __pow__
-__contains__ __getitem__ __ne__
+__contains__ __getitem__
 """.split())
 STATEMENTS = (
     ast.Assign, ast.AugAssign, ast.AnnAssign, ast.If, ast.While, ast.For, ast.Return, ast.Break, ast.Continue, ast.Pass,
@@ -100,7 +100,9 @@ class TestLanguage(unittest.TestCase):
                 self.assertIsInstance(node, (ast.Expr, ast.ImportFrom, ast.FunctionDef, ast.ClassDef, ast.Assign))
                 if isinstance(node, ast.Assign):
                     self.assertEqual(len(node.targets), 1)
-                    self.assertFalse([one for one in ast.walk(node.value) if isinstance(one, (ast.Call, ast.Dict))])
+                    self.assertFalse([one for one in ast.walk(node.value) if isinstance(one, (ast.Call, ast.Lambda))])
+                    inner = [one for one in ast.walk(node.value) if one is not node.value]
+                    self.assertFalse([one for one in inner if isinstance(one, (ast.Dict, ast.List, ast.Set))])
                 if isinstance(node, ast.Expr):
                     self.assertIsInstance(node.value.value, str)
             for node in ast.walk(tree):
@@ -108,7 +110,8 @@ class TestLanguage(unittest.TestCase):
                     self.assertIsInstance(node, STATEMENTS)
                 self.assertNotIsInstance(node, (ast.Div, ast.Await, ast.Set))
                 if isinstance(node, ast.Try):
-                    self.assertEqual([ast.unparse(one.type) for one in node.handlers], ["KeyError"])
+                    self.assertLessEqual({ast.unparse(one.type) for one in node.handlers},
+                                         {"KeyError", "InvalidGraph", "InvalidRecipe"})
                     self.assertEqual(node.finalbody, [])
                 if isinstance(node, ast.Constant):
                     self.assertNotIsInstance(node.value, (float, complex, bytes))

@@ -1,0 +1,1 @@
+"""A small language of loops."""

@@ -1,0 +1,1 @@
+"""Graphs that are edited step by step."""
