@@ -2,41 +2,52 @@
 
 from loopgrowth.bounds.polynomials import Polynomial
 from loopgrowth.graphs.checks import check_graph, check_thing
-from loopgrowth.levels.levels import checked_ascent, climbed
-from loopgrowth.levels.ranks import free
+from loopgrowth.graphs.graphs import keep, kept
+from loopgrowth.levels.ladders import meetings_of
+from loopgrowth.levels.levels import ascent_of, check_levels_paper
+
+_BOUNDS = "bounds"
 
 
 def bound(graph, thing):
     """A bound of the thing, or None if its growth is no power."""
     check_graph(graph)
     check_thing(graph, thing)
-    return bounds(graph).get(thing)
+    ascent = ascent_of(graph)
+    return _own_bounds(graph, ascent)[ascent.found[thing]] if thing in ascent.found else None
 
 
 def bounds(graph):
     """A dict from all things whose growth is a power to bounds."""
-    ascent = climbed(graph, free(graph))
-    by_level = _level_bounds(graph, ascent)
-    exponents = ascent.exponents()
-    return {thing: by_level[exponents[thing]] for thing in exponents}
+    check_graph(graph)
+    ascent = ascent_of(graph)
+    by_level = _own_bounds(graph, ascent)
+    return {thing: by_level[ascent.found[thing]] for thing in sorted(list(ascent.found))}
+
+
+def _own_bounds(graph, ascent):
+    """The level bounds that the program's own levels paper gives; they are kept, and not to be changed."""
+    return kept(graph, _BOUNDS) or keep(graph, _BOUNDS, _level_bounds(graph, ascent, meetings_of(ascent)))
 
 
 def level_bounds(graph, paper):
     """A dict from the exponents of things to the level bounds that a levels paper gives."""
-    return _level_bounds(graph, checked_ascent(graph, paper))
+    check_graph(graph)
+    check_levels_paper(graph, paper)
+    return _level_bounds(graph, ascent_of(graph), paper)
 
 
-def _level_bounds(graph, ascent):
-    """The level bounds by the meetings of a finished ascent."""
+def _level_bounds(graph, ascent, paper):
+    """The level bounds by the meetings of a levels paper."""
     told = {}
     for level in sorted({ascent.found[thing] for thing in ascent.found}):
-        told[level] = _level_bound(graph, ascent, level, told)
+        told[level] = _level_bound(graph, ascent, paper[level - 1], level, told)
     return told
 
 
-def _level_bound(graph, ascent, level, lower):
+def _level_bound(graph, ascent, meeting, level, lower):
     """The level bound of one level; those of all lower levels are given."""
-    weights, offsets, _ = ascent.meetings[level - 1]
+    weights, offsets, _ = meeting
     heavy = {counter: _greatest_weight(weights, counter) for counter in ascent.bounded}
     whole = sum([heavy[counter] for counter in heavy])
     spread = max([offsets[state] for state in offsets]) - min([offsets[state] for state in offsets])

@@ -6,8 +6,8 @@ from loopgrowth.errors import InvalidRecipe
 from loopgrowth.graphs.checks import check_graph, check_number, check_thing
 from loopgrowth.graphs.graphs import keep, kept
 from loopgrowth.graphs.parts import way
-from loopgrowth.levels.levels import climbed
-from loopgrowth.levels.ranks import free, ranks_paper
+from loopgrowth.levels.levels import ascent_of
+from loopgrowth.levels.ranks import ranks_paper
 from loopgrowth.walks.recipes import Recipe
 
 # What is beyond is doubled once in each stage, until there would be too many stages; then each stage doubles it more
@@ -27,7 +27,7 @@ class Plan:
     """
 
     def __init__(self, graph):
-        self.ascent = climbed(graph, free(graph))
+        self.ascent = ascent_of(graph)
         self.pumps = _pumps(graph)
         self.whole = None
         self.factors = []
@@ -53,7 +53,7 @@ class Plan:
         _, counters = self.ascent.left()
         if not counters:
             return 0
-        _, _, amounts = self.ascent.meetings[-1]
+        _, _, amounts = self.ascent.balances[-1].meeting()
         self.spread = whole_tour(graph, part_tours(graph, amounts))
         self.turns = max([_lowered(self.spread, counter) for counter in self.ascent.bounded] + [1])
         most = (self.turns << _MOST_DOUBLINGS) + 1

@@ -55,8 +55,8 @@ def level_tours(graph, ascent, level, last, part):
     """The tours of a level within a part; the inner ones are those of the next level, up to the last one."""
     if level > last:
         return []
-    _, _, amounts = ascent.meetings[level - 1]
-    below = [one for one in components(graph, ascent.kept[level]) if one[0] in part]
+    _, _, amounts = ascent.balances[level - 1].meeting()
+    below = [one for one in ascent.pieces[level] if one[0] in part]
     return [Tour(graph, _inside(graph, amounts, one), one, level_tours(graph, ascent, level + 1, last, one))
             for one in below]
 

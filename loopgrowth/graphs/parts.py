@@ -66,12 +66,14 @@ def _distances(graph, other):
 def is_circulation(graph, value):
     """Whether the value is amounts of which as much comes to each state as goes from it."""
     check_graph(graph)
-    return are_amounts(graph, value) and all([_is_level(graph, value, state) for state in graph.states])
-
-
-def _is_level(graph, amounts, state):
-    coming = sum([amounts.get(name, 0) for name in graph.entering(state)])
-    return coming == sum([amounts.get(name, 0) for name in graph.leaving(state)])
+    if not are_amounts(graph, value):
+        return False
+    rests = {state: 0 for state in graph.states}
+    for name in value:
+        _, source, target, _ = graph[name]
+        rests[source] = rests[source] - value[name]
+        rests[target] = rests[target] + value[name]
+    return not any([rests[state] for state in rests])
 
 
 def check_circulation(graph, amounts):
@@ -87,9 +89,12 @@ def effect(graph, amounts, *, part=None):
     if part is not None and not is_part(graph, part):
         raise InvalidOperation("this is no part of the states")
     states = graph.states if part is None else part
-    inside = [name for name in amounts if lies_in(graph, name, states)]
-    return {counter: sum([amounts[name] * graph.change(name)[counter] for name in inside])
-            for counter in graph.counters}
+    sums = {counter: 0 for counter in graph.counters}
+    for name in amounts:
+        if lies_in(graph, name, states):
+            for counter, change in graph[name][3]:
+                sums[counter] = sums[counter] + amounts[name] * change
+    return sums
 
 
 def cycles(graph):

@@ -3,13 +3,15 @@
 from loopgrowth.errors import InvalidOperation
 from loopgrowth.graphs.checks import check_counters, check_graph, check_thing
 from loopgrowth.graphs.parts import components, lies_in
-from loopgrowth.levels.balances import Balance
+from loopgrowth.levels.ladders import finished, is_shown_by, meetings_of, rounds_for
 from loopgrowth.walks.recipes import circuit
 
 
 def endless(graph, counters):
     """The transitions of closed walks that lessen none of these counters, and the counters that such a walk gains."""
-    return shown_endless(endless_paper(graph, counters))
+    check_graph(graph)
+    check_counters(graph, counters)
+    return finished(rounds_for(graph, counters)).shown
 
 
 def every_run_ends(graph):
@@ -19,53 +21,18 @@ def every_run_ends(graph):
     return not names
 
 
-def _round(graph, names, counters):
-    """The round of these transitions, in which each counter is looked at in each of their components."""
-    parts = components(graph, names)
-    return Balance(graph, names, {counter: parts for counter in counters})
-
-
-def _rounds(graph, counters):
-    """The balances of all rounds, from the first to the last one."""
-    rounds = [_round(graph, graph.names, counters)]
-    while rounds[-1].falling():
-        rounds.append(_round(graph, rounds[-1].carried(), counters))
-    return rounds
-
-
 def endless_paper(graph, counters):
     """The meetings of all rounds, from the first to the last one."""
     check_graph(graph)
     check_counters(graph, counters)
-    return tuple(balance.meeting() for balance in _rounds(graph, counters))
+    return meetings_of(finished(rounds_for(graph, counters)))
 
 
 def is_endless_paper(graph, counters, value):
     """Whether the value is meetings of all rounds, from the first to the last one."""
     check_graph(graph)
     check_counters(graph, counters)
-    if not isinstance(value, tuple):
-        return False
-    names = graph.names
-    for at, meeting in enumerate(value):
-        if not _round(graph, names, counters).is_meeting(meeting):
-            return False
-        carried = _carried(meeting)
-        if carried == names:
-            return at == len(value) - 1
-        names = carried
-    return False
-
-
-def _carried(meeting):
-    _, _, amounts = meeting
-    return tuple(sorted([name for name in amounts if amounts[name] > 0]))
-
-
-def shown_endless(paper):
-    """The transitions and the counters that an endless paper shows."""
-    weights, _, _ = paper[-1]
-    return _carried(paper[-1]), tuple(sorted({counter for counter, part in weights if weights[counter, part] == 0}))
+    return is_shown_by(rounds_for(graph, counters), value)
 
 
 def endless_walk(graph, counters, thing):
@@ -75,7 +42,7 @@ def endless_walk(graph, counters, thing):
     check_thing(graph, thing)
     if thing in graph.counters and thing not in counters:
         raise InvalidOperation("this counter is none of those that are asked for")
-    weights, _, amounts = endless_paper(graph, counters)[-1]
+    weights, _, amounts = finished(rounds_for(graph, counters)).balances[-1].meeting()
     for part in components(graph, tuple(amounts)):
         inside = {name: amounts[name] for name in amounts if lies_in(graph, name, part)}
         if thing in inside or weights.get((thing, part)) == 0:

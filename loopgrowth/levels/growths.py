@@ -2,8 +2,9 @@
 
 from loopgrowth.errors import InvalidOperation
 from loopgrowth.graphs.checks import check_graph, check_thing
-from loopgrowth.levels.levels import climbed, climbed_by
-from loopgrowth.levels.ranks import free, is_ranks_paper, ranks_paper, shown_ranks
+from loopgrowth.levels.ladders import is_shown_by, levels_for, meetings_of
+from loopgrowth.levels.levels import ascent_of
+from loopgrowth.levels.ranks import free_ranks, is_ranks_paper, ranks_paper
 from loopgrowth.values import is_natural
 
 _POWER = "power"
@@ -14,16 +15,13 @@ _CONSTANT = ("power", 0)
 
 def growths(graph):
     """A dict from all things to their growths."""
-    return _growths_behind(graph, climbed(graph, free(graph)))
-
-
-def _growths_behind(graph, ascent):
-    """The growths that a finished ascent shows."""
-    things = sorted([*graph.counters, *graph.names])
-    return {thing: _growth_behind(ascent, thing) for thing in things}
+    check_graph(graph)
+    ascent = ascent_of(graph)
+    return {thing: _growth_behind(ascent, thing) for thing in sorted([*graph.counters, *graph.names])}
 
 
 def _growth_behind(ascent, thing):
+    """The growth that the levels show."""
     if thing in ascent.ranks:
         return _FREE, ascent.ranks[thing]
     if thing in ascent.found:
@@ -35,35 +33,29 @@ def growth(graph, thing):
     """The growth of one thing."""
     check_graph(graph)
     check_thing(graph, thing)
-    return growths(graph)[thing]
+    return _growth_behind(ascent_of(graph), thing)
 
 
 def growth_paper(graph):
     """A pair of a ranks paper and a levels paper."""
-    ranks = ranks_paper(graph)
-    return ranks, tuple(climbed(graph, shown_ranks(ranks)).meetings)
+    return ranks_paper(graph), meetings_of(ascent_of(graph))
 
 
 def is_growth_paper(graph, value):
     """Whether the value is a pair of a ranks paper and a levels paper."""
     check_graph(graph)
-    return _ascent_by(graph, value) is not None
-
-
-def _ascent_by(graph, value):
-    """The ascent by a growth paper, or None if the value is none."""
     if not isinstance(value, tuple) or len(value) != 2 or not is_ranks_paper(graph, value[0]):
-        return None
-    return climbed_by(graph, shown_ranks(value[0]), value[1])
+        return False
+    # The ranks are those that the paper shows: behind it, and behind a right levels paper, nothing is searched for.
+    return is_shown_by(levels_for(graph, free_ranks(graph)), value[1])
 
 
 def growths_by(graph, paper):
     """The growths that a growth paper shows."""
     check_graph(graph)
-    ascent = _ascent_by(graph, paper)
-    if ascent is None:
+    if not is_growth_paper(graph, paper):
         raise InvalidOperation("this is no growth paper")
-    return _growths_behind(graph, ascent)
+    return growths(graph)
 
 
 def is_growth(value):
