@@ -15,7 +15,8 @@ from samples import (CUBE, DOUBLE, EMPTY, PUMP, SHUTTLE, SIXTH, graph_of, loop_g
 GREAT = 10 ** 1000 - 1
 SMALL = graph_of("x y", "a p q: x-1 y+2", "b q p: x+9")
 RECIPES = [
-    (SHUTTLE, (), "p"), (SHUTTLE, (), "q"), (SHUTTLE, ("a",), "p"), (SHUTTLE, ((2, ("go", (10, ("b",)), "back")),), "p"),
+    (SHUTTLE, (), "p"), (SHUTTLE, (), "q"), (SHUTTLE, ("a",), "p"),
+    (SHUTTLE, ((2, ("go", (10, ("b",)), "back")),), "p"),
     (SHUTTLE, ((3, ("a",)), "go"), "p"), (SHUTTLE, ((0, ()),), "q"), (SHUTTLE, ((0, ()), (0, ())), "q"),
     (SHUTTLE, ((5, ((4, ((0, ()), (3, ()))),)), "a"), "p"), (SHUTTLE, ((GREAT, ("a",)),), "p"),
     (PUMP, ((1, ("a", (1, ("a", "a")))), "go", (0, ("b",)), "back", (10 ** 40, ("a",))), "s"), (EMPTY, ((7, ()),), "p"),
@@ -175,9 +176,12 @@ class TestFormats(unittest.TestCase):
                       "counters x\nstates p p", "counters x\nstates p q\na p q\nb q p\na p q",
                       "counters x\nstates q p\na p q\nb q p", "counters x\nstates p q\nb q p\na p q",
                       "counters x\nstates p\na p q\nb q p", "counters x\nstates p q r\na p q\nb q p",
-                      "counters x\nstates p\nx p p", "counters x\nstates p\na p p y-1", "counters x\nstates p\na p p x-0",
-                      "counters x\nstates p\na p p x-10", "counters x\nstates p\na p p x-01", "counters x\nstates p\na p",
-                      "counters x\nstates p\na p p x1", "counters x\nstates p\na p p x", "counters x\nstates p\na p p -1",
+                      "counters x\nstates p\nx p p", "counters x\nstates p\na p p y-1",
+                      "counters x\nstates p\na p p x-0",
+                      "counters x\nstates p\na p p x-10", "counters x\nstates p\na p p x-01",
+                      "counters x\nstates p\na p",
+                      "counters x\nstates p\na p p x1", "counters x\nstates p\na p p x",
+                      "counters x\nstates p\na p p -1",
                       "counters x\nstates p\na p p x-1 x-1", "counters x y\nstates p\na p p y-1 x-1",
                       "counters x\nstates p\na  p p", "counters x\nstates p\na p p ", "counters x\r\nstates p",
                       "counters x\tstates p", "counters abcdefghi\nstates p", "counters x\nstates p\nabcdefghi p p",
@@ -205,8 +209,10 @@ class TestFormats(unittest.TestCase):
                     self.assertEqual((read_growth(other), growth_text(told)), (told, other))
 
     def test_texts_of_no_growth(self):
-        for text in ["", "0", "2", "n^0", "n^1", "n^01", "n^", "n^ 2", "n ^2", "n^-2", "n^+2", "n^2.0", "n^2 ", "N", "N^2",
-                     "free", "free ", "free 00", "free 01", "free -1", "free  1", "free0", "free n", "Beyond", "beyond ",
+        for text in ["", "0", "2", "n^0", "n^1", "n^01", "n^", "n^ 2", "n ^2", "n^-2", "n^+2", "n^2.0", "n^2 ", "N",
+                     "N^2",
+                     "free", "free ", "free 00", "free 01", "free -1", "free  1", "free0", "free n", "Beyond",
+                     "beyond ",
                      "n\n", "n^1_0", "n^" + "1" * 1001, "free " + "1" * 1001, "free " + "0" * 1000, "1n", "n^\u0665",
                      "power 2", "n^2n"]:
             with self.assertRaises(ParseError, msg=text):
@@ -256,11 +262,14 @@ class TestFormats(unittest.TestCase):
         self.assertTrue(right > 100 and wrong > 3000, (right, wrong))
 
     def test_texts_of_no_recipe(self):
-        for text in ["", "from", "from ", "from r", "from p q", "p a", "from p a ", " from p a", "from p  a", "from p\na",
-                     "from p a\n", "from p b", "from p go go", "from p 2(go)", "from p 2(a", "from p 2(a))", "from p a)",
+        for text in ["", "from", "from ", "from r", "from p q", "p a", "from p a ", " from p a", "from p  a",
+                     "from p\na",
+                     "from p a\n", "from p b", "from p go go", "from p 2(go)", "from p 2(a", "from p 2(a))",
+                     "from p a)",
                      "from p 2 (a)", "from p 2( a)", "from p 2(a )", "from p 2( )", "from p 02(a)", "from p (a)",
                      "from p -1(a)", "from p +2(a)", "from p 2.0(a)", "from p 2(a)a", "from p 2(a)3(a)", "from p a(2)",
-                     "from p 2[a]", "from p " + "1" * 1001 + "(a)", "from p 0" + "1" * 20 + "(a)", "From p a", "from P a",
+                     "from p 2[a]", "from p " + "1" * 1001 + "(a)", "from p 0" + "1" * 20 + "(a)", "From p a",
+                     "from P a",
                      "from p 2()(a)", "from p ()", "from p )", "from p 1_0(a)", "(" * 3000, "from p " + "1(" * 3000,
                      "from p nosuch", "from p 2(a,a)", "from p " + "a" * 9]:
             self.assertIsNone(recipe_by(SHUTTLE, text) if len(text) < 3000 else None, text)

@@ -166,7 +166,8 @@ class TestOperations(unittest.TestCase):
         for value in odd_values():
             if not isinstance(value, Graph):
                 for call in (lambda: joined(value, None, 7), lambda: joined(SHUTTLE, value, 7),
-                             lambda: allows(value, None), lambda: allows(SHUTTLE, value)):
+                             lambda: allows(value, None), lambda: allows(value, SHUTTLE),
+                             lambda: allows(SHUTTLE, value)):
                     with self.assertRaises(InvalidGraph):
                         call()
         for value in odd_names("p"):
@@ -265,7 +266,7 @@ class TestOperations(unittest.TestCase):
             self.assertIs(caught.exception.name, value)
         for value in odd_names(*SHUTTLE.names):
             for call in (lambda: counted(SHUTTLE, value, 7), lambda: copied(SHUTTLE, value, 7),
-                         lambda: halved(SHUTTLE, value, 7, 7)):
+                         lambda: halved(SHUTTLE, value, 7, 7), lambda: halved(SHUTTLE, value, "m", "p")):
                 with self.assertRaises(UnknownName) as caught:
                     call()
                 self.assertIs(caught.exception.name, value)

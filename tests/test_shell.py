@@ -128,7 +128,8 @@ class TestShell(unittest.TestCase):
         list(shell.do_all(DRAFT + ("done",)))
         self.assertEqual([shell.present, shell.do("undo"), shell.present, shell.do("redo"), shell.present],
                          ["m", "ok", None, "ok", "m"])
-        self.assertEqual([shell.do("drop ga"), shell.present, shell.do("drop m"), shell.present], ["ok", "m", "ok", None])
+        self.assertEqual([shell.do("drop ga"), shell.present, shell.do("drop m"), shell.present],
+                         ["ok", "m", "ok", None])
 
     def test_changes_and_news(self):
         shell = shell_with(SHUTTLE, PUMP)
@@ -227,11 +228,14 @@ class TestShell(unittest.TestCase):
         before = seen(shell)
         lines = ["", " ", "new", "new ", "new M", "new abcdefghi", "new m n", "new  m", "new m ", " new m", "new m\n",
                  "new\tm", "new 1", "New m", "counter", "counter x y", "counter X", "state", "state p q", "line",
-                 "line ", "line a", "line a p", "line a p q x", "line a p q x-0", "line a p q x-10", "line a p q x-1 x-1",
-                 "line a p q y-1 x-1", "line a p q  x-1", "line a p q x-1 ", "line a P q", "line a p q x1", "line  a p q",
+                 "line ", "line a", "line a p", "line a p q x", "line a p q x-0", "line a p q x-10",
+                 "line a p q x-1 x-1",
+                 "line a p q y-1 x-1", "line a p q  x-1", "line a p q x-1 ", "line a P q", "line a p q x1",
+                 "line  a p q",
                  "line a p q -1", "done m", "done ", "forget m", "forget ", "open", "open ", "open m n", "open 1",
                  "drop", "drop m n", "drop M", "add", "add a", "add a p", "add c p p x+10", "cut", "cut a b", "cut A",
-                 "undo 1", "undo ", "redo 1", "watch", "watch a b", "watch A", "unwatch", "unwatch 1", "show a", "show ",
+                 "undo 1", "undo ", "redo 1", "watch", "watch a b", "watch A", "unwatch", "unwatch 1", "show a",
+                 "show ",
                  "table a", "growth", "growth a b", "growth A", "growth ", "steps a", "bound", "bound a b", "bound 1",
                  "reach", "reach a", "reach 1", "reach a 1", "reach 01 a", "reach -1 a", "reach +1 a", "reach 1 a b",
                  "reach 1" + "0" * 39 + "1 a", "reach 1" + "0" * 41 + " a", "reach 1  a", "reach 1.0 a", "reach 1_0 a",

@@ -133,11 +133,14 @@ class TestWorkshop(unittest.TestCase):
             (("cut", "m", "up"), InvalidEdit), (("cut", "m", "x"), InvalidEdit), (("cut", "m", "p"), InvalidEdit),
             (("cut", "m", None), InvalidEdit), (("cut", "m", SHUTTLE["a"]), InvalidEdit),
             (("cut", "m", "a", "b"), InvalidEdit), (("cut", "k", "a"), InvalidEdit), (("Put", "n", PUMP), InvalidEdit),
-            (("make", "m", PUMP), InvalidEdit), ((None, "m", PUMP), InvalidEdit), (("undo",), InvalidEdit),
+            (("make", "m", PUMP), InvalidEdit), (("make", "m", UP), InvalidEdit), (("make", "m", "a"), InvalidEdit),
+            (("make", "m"), InvalidEdit), (("set", "m", "a"), InvalidEdit), (("cut", "m", UP), InvalidEdit),
+            ((None, "m", PUMP), InvalidEdit), (("undo",), InvalidEdit),
             ((PUMP, "m", PUMP), InvalidEdit), (((), "m"), InvalidEdit), (({}, "m", "a"), InvalidEdit),
             (("cut", "m", "go"), InvalidGraph), (("cut", "m", "back"), InvalidGraph),
             (("add", "m", ("x", "p", "p", ())), InvalidGraph), (("add", "m", ("c", "p", "r", ())), InvalidGraph),
-            (("add", "m", ("c", "p", "p", (("u", 1),))), InvalidGraph), (("add", "k", ("c", "q", "q", ())), InvalidGraph),
+            (("add", "m", ("c", "p", "p", (("u", 1),))), InvalidGraph),
+            (("add", "k", ("c", "q", "q", ())), InvalidGraph),
         ]
 
     def test_wrong_edits_change_nothing(self):
@@ -171,7 +174,8 @@ class TestWorkshop(unittest.TestCase):
         shop = Workshop()
         wrong = [(("drop", "m"), InvalidEdit), (("put", "m", PUMP), None), (("put", "m", PUMP), InvalidEdit),
                  (("cut", "m", "go"), InvalidGraph)]
-        for step, error in (((wrong[1], wrong[3], wrong[0]), InvalidGraph), ((wrong[1], wrong[2], wrong[3]), InvalidEdit),
+        for step, error in (((wrong[1], wrong[3], wrong[0]), InvalidGraph),
+                            ((wrong[1], wrong[2], wrong[3]), InvalidEdit),
                             ((wrong[1], (("drop", "m"), None), wrong[3]), InvalidEdit)):
             with self.assertRaises(error) as caught:
                 shop.make_all(tuple(edit for edit, _ in step))
@@ -199,7 +203,8 @@ class TestWorkshop(unittest.TestCase):
     def test_names_and_graphs(self):
         shop = Workshop()
         shop.make(("put", "zz", PUMP), ("put", "b", SHUTTLE), ("put", "aa", EMPTY))
-        self.assertEqual([shop.names, list(shop), tuple(shop)], [("aa", "b", "zz"), ["aa", "b", "zz"], ("aa", "b", "zz")])
+        self.assertEqual([shop.names, list(shop), tuple(shop)],
+                         [("aa", "b", "zz"), ["aa", "b", "zz"], ("aa", "b", "zz")])
         self.assertEqual([shop["zz"], shop["aa"]], [PUMP, EMPTY])
         self.assertEqual([name in shop for name in ("zz", "b", "aa", "a", "")], [True, True, True, False, False])
         for value in odd_names("aa", "b", "zz"):
@@ -310,7 +315,8 @@ class TestWorkshop(unittest.TestCase):
         shop.make(("set", "m", shop["m"]))
         self.assertEqual(list(shop.news()), [])
         shop.make(("put", "k", LOOP), ("drop", "m"), ("put", "m", SHUTTLE))
-        self.assertEqual(list(shop.news()), [(("k", "a"), None, ("power", 1))] + [(pair, new, old) for pair, old, new in told])
+        back = [(pair, new, old) for pair, old, new in told]
+        self.assertEqual(list(shop.news()), [(("k", "a"), None, ("power", 1))] + back)
         shop.undo(many=2)
         self.assertEqual(list(shop.news()), [(("k", "a"), ("power", 1), None)] + told)
         # Steps that are made and taken back together: what lies between does not count.

@@ -22,8 +22,8 @@ class Plan:
 
     `pumps` are pairs of a rank and a tour that raises things of this rank. `whole` is the tour for powers: its stage k
     has factors[k] * n rounds, in each of them as many of the tours of level 1, and so on up to level k; n is as great
-    as the goal asks for. `spread` is the tour for what is beyond, with the tours of the last level within it: so many
-    `turns` of it gain as much as one needs that has twice as many rounds of these.
+    as the goal asks for. `spread` is the tour for what is beyond, with the tours of the last level within it: a round
+    lowers no counter by more than `turns` for each round of these, and raises what is beyond by at least 1 for each.
     """
 
     def __init__(self, graph):

@@ -8,8 +8,8 @@ from loopgrowth.walks.recipes import Recipe, round_trip
 class Tour:
     """A closed walk from a state, on which inner tours can be walked.
 
-    The template has the items of the walk, and the place of an inner tour where this one can be walked. The gains and
-    the needs are those of one round without inner tours.
+    The template has the items of the walk, and the place of an inner tour where this one can be walked. The gains are
+    the effect of one round without inner tours, `least` are its needs; it takes the transitions of `takes`.
     """
 
     __slots__ = ("origin", "takes", "template", "inner", "gains", "least")
