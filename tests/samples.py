@@ -105,6 +105,11 @@ SIXTH = graph_of("x y w v u", "a p p: x-1 y+1 w+1", "b q q: y-1 x+1", "go p q:",
                  "e t t: w-1 v+1", "f o o: v-1 w+1", "ahead t o:", "again o t: u-1",
                  "in p r:", "over r t:", "out t p: x-1")
 
+# x doubles, and v and w move to and fro, n ** 2 times: what the first level carries lessens v at p, what the last one
+# carries does not.
+BESIDE = graph_of("x y v w z", "a p p: x-1 y+1", "b q q: y-1 x+2", "c p p: v-1 w+1", "d q q: w-1 v+1", "go p q:",
+                  "back q p: z-1")
+
 
 def moving_graph(seed):
     """A graph whose loops move amounts from one counter to another one, and whose ways cost something."""

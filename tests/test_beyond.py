@@ -10,8 +10,8 @@ from loopgrowth.levels.beyond import beyond, doubling, is_doubling, joined_doubl
 from loopgrowth.levels.levels import exponents, rest
 from loopgrowth.levels.ranks import free
 from loopgrowth.walks.recipes import Recipe, circuit
-from samples import (DOUBLE, EMPTY, FOURTH, PUMP, SHUTTLE, SIXTH, changed_values, graph_of, loop_graph, moving_graph,
-                     odd_values, random_graph)
+from samples import (BESIDE, DOUBLE, EMPTY, FOURTH, PUMP, SHUTTLE, SIXTH, changed_values, graph_of, loop_graph,
+                     moving_graph, odd_values, random_graph)
 from sums import is_doubling_by
 
 # Two doublings that have nothing in common, and a transition that can be taken without end.
@@ -21,7 +21,7 @@ PAIR = graph_of("v w x y z", "a p p: x-1 y+1", "b q q: x+2 y-1", "c p p: v-1 w+2
 
 def doubling_graphs():
     """Graphs with something that is beyond."""
-    told = [DOUBLE, PAIR]
+    told = [DOUBLE, PAIR, BESIDE]
     for seed in range(4000):
         if len(told) == 40:
             return told

@@ -8,8 +8,8 @@ from loopgrowth.errors import InvalidGraph, InvalidNumber, InvalidRecipe, Unknow
 from loopgrowth.graphs.graphs import Graph
 from loopgrowth.levels.growths import growths
 from loopgrowth.walks.recipes import Recipe
-from samples import (CUBE, DOUBLE, EMPTY, FOURTH, PUMP, SHUTTLE, SIXTH, SQUARE, graph_of, loop_graph, moving_graph,
-                     odd_names, odd_numbers, odd_values, random_graph)
+from samples import (BESIDE, CUBE, DOUBLE, EMPTY, FOURTH, PUMP, SHUTTLE, SIXTH, SQUARE, graph_of, loop_graph,
+                     moving_graph, odd_names, odd_numbers, odd_values, random_graph)
 from sums import end_of, greatest_numbers, long_sums, need_and_goal, quick_sums, root_of
 
 GREAT = 10 ** 999
@@ -28,7 +28,8 @@ STEEP = graph_of("x y w v", "a p p: x-9 y+9 w+1", "b q q: y-8 x+8", "go p q:", "
                  "c r r: w-9 v+9", "d s s: v-7 w+7", "on r s:", "off s r: w-9", "in p r: v-9", "out r p: x-9")
 LOOP = Graph(("x",), ("a", "p", "p", (("x", -1),)))
 STILL = Graph(("x", "y"), ("a", "p", "q", ()), ("b", "q", "p", ()))
-NAMED = [SHUTTLE, DOUBLE, PUMP, EMPTY, SQUARE, CUBE, FOURTH, SIXTH, RANKS, APART, DEAR, SLOW, STEEP, LOOP, STILL]
+NAMED = [SHUTTLE, DOUBLE, BESIDE, PUMP, EMPTY, SQUARE, CUBE, FOURTH, SIXTH, RANKS, APART, DEAR, SLOW, STEEP,
+         LOOP, STILL]
 
 
 def more_graphs():

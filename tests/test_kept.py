@@ -14,7 +14,7 @@ from loopgrowth.levels.levels import (exponents, exponents_of, is_levels_paper, 
                                       rest)
 from loopgrowth.levels.ranks import free, free_walk, is_ranks_paper, ranks_paper
 from loopgrowth.walks.recipes import Recipe
-from samples import (CUBE, DOUBLE, EMPTY, PUMP, SHUTTLE, changed_values, graph_of, loop_graph, moving_graph,
+from samples import (BESIDE, CUBE, DOUBLE, EMPTY, PUMP, SHUTTLE, changed_values, graph_of, loop_graph, moving_graph,
                      scaled_papers)
 from sums import is_doubling_by
 
@@ -102,7 +102,7 @@ DOUBLINGS = [(), ({"a": 3, "b": 2}, ("x", "y")), ({"a": 3, "b": 2, "d": 1}, ("v"
 
 
 def graphs():
-    return [SHUTTLE, DOUBLE, PUMP, EMPTY, CUBE, LONG, RAISED] + [loop_graph(seed) for seed in range(8)] + \
+    return [SHUTTLE, DOUBLE, PUMP, EMPTY, CUBE, LONG, RAISED, BESIDE] + [loop_graph(seed) for seed in range(8)] + \
         [moving_graph(seed) for seed in range(6)]
 
 
@@ -223,9 +223,10 @@ class TestKept(unittest.TestCase):
                          [("free", 0), ("beyond",), ("power", 1)])
 
     def test_doublings_by_the_sums_of_the_tests(self):
-        for graph in [DOUBLE, RAISED, LONG] + [moving_graph(seed) for seed in range(12)]:
+        for graph in [DOUBLE, RAISED, LONG, BESIDE] + [moving_graph(seed) for seed in range(12)]:
             ranks = free(graph)
             told = doubling(graph)
+            self.assertTrue(told is None or is_doubling_by(graph, ranks, told))
             values = changed_values(told) + [told] if told else DOUBLINGS
             for value in values:
                 self.assertIs(is_doubling(graph, value), is_doubling_by(graph, ranks, value), value)

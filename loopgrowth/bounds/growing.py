@@ -56,7 +56,7 @@ class Plan:
         _, _, amounts = self.ascent.balances[-1].meeting()
         self.spread = whole_tour(graph, part_tours(graph, amounts))
         self.turns = max([_lowered(self.spread, counter) for counter in self.ascent.bounded] + [1])
-        most = (self.turns << _MOST_DOUBLINGS) + 1
+        most = self.turns << _MOST_DOUBLINGS
         return max([losses([self.spread.gains[counter]])[0] * most + _first_need(self.spread, counter)
                     for counter in self.ascent.bounded])
 
@@ -199,8 +199,8 @@ def _beyond_items(plan, goal):
     digits = goal.bit_length()
     each = min(_MOST_DOUBLINGS, (digits - 1) // _MANY_STAGES + 1)
     many = (digits - 1) // each + 1
-    stages = [[plan.turns << each, 1 << each * stage] for stage in range(many)] + [[1, 1 << each * many]]
-    return tuple([rounds(plan.spread, numbers) for numbers in stages])
+    # Each stage gains what one needs with 2 ** each times as many inner rounds; the last one gains the goal.
+    return tuple([rounds(plan.spread, [plan.turns << each, 1 << each * stage]) for stage in range(many)])
 
 
 def _raising_steps(graph, plan, thing, goal):
