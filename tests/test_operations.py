@@ -137,6 +137,16 @@ class TestOperations(unittest.TestCase):
         self.assertEqual(joined(EMPTY, EMPTY, "p"), EMPTY)
         self.assertEqual(joined(EMPTY, SHUTTLE, "p"), SHUTTLE)
 
+    def test_the_graphs_stay_as_they_were(self):
+        one, other = Graph.of(SHUTTLE.counters, SHUTTLE.transitions), Graph.of(RING.counters, RING.transitions)
+        growths(one)
+        for call in (lambda: scaled(one, "x", 3), lambda: counted(one, "a", "m"), lambda: copied(one, "a", "m"),
+                     lambda: halved(one, "a", "m", "r"), lambda: joined(one, other, "p"),
+                     lambda: joined(other, one, "p"), lambda: allows(one, other)):
+            call()
+            self.assertEqual((one, other, growths(one), growths(other)),
+                             (SHUTTLE, RING, growths(SHUTTLE), growths(RING)))
+
     def test_growths_of_joined_graphs(self):
         joins = 0
         for first in range(40):
